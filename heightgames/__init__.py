@@ -1,0 +1,1 @@
+"""Heightgames: gains that hang on one height."""

@@ -1,0 +1,41 @@
+"""What the other modules share about standings and about rows of integers."""
+
+from heightgames.kinds import is_integer, is_name
+
+
+def sorted_ways(ways):
+    """Return a shape as a dict of lists, choosers and ways ascending."""
+    return {chooser: sorted(ways[chooser]) for chooser in sorted(ways)}
+
+
+def standings_of(way_lists):
+    """Return the ascending list of the standings of what sorted_ways returned."""
+    standings = [()]
+    for ways in way_lists.values():
+        standings = [standing + (way,) for standing in standings for way in ways]
+    return standings
+
+
+def put(standing, at, way):
+    """Return a standing with another way at a place."""
+    return standing[:at] + (way,) + standing[at + 1:]
+
+
+def is_one_of(thing, tuples):
+    """Return whether any value is one of some tuples of names, the keys of a dict."""
+    # Only what consists of names is looked up: other values may not be able to be keys.
+    return isinstance(thing, tuple) and all([is_name(item) for item in thing]) and thing in tuples
+
+
+def are_integers(thing, many):
+    """Return whether any value is a list or tuple of so many integers."""
+    if not isinstance(thing, (list, tuple)) or len(thing) != many:
+        return False
+    return all([is_integer(item) for item in thing])
+
+
+def is_table(thing, wanted, many):
+    """Return whether any value is a dict from just the wanted keys to so many integers each."""
+    if not isinstance(thing, dict) or len(thing) != len(wanted):
+        return False
+    return all([key in thing and are_integers(thing[key], many) for key in wanted])

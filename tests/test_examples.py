@@ -1,0 +1,46 @@
+"""The examples of the document, as they stand there.
+
+>>> from heightgames.games import Game
+>>> from heightgames.rows import is_ring, led, row_sum
+>>> plain = {"a": ["l", "r"], "b": ["l", "r"]}
+>>> meet = Game(plain, {("l", "l"): (2, 2), ("l", "r"): (0, 0), ("r", "l"): (0, 0), ("r", "r"): (1, 1)})
+>>> [len(meet), meet.gains(("r", "r")), meet.changes(("l", "r")), meet.own(("l", "r"), ("a", "r"))]
+[4, (1, 1), [('a', 'r'), ('b', 'l')], 1]
+>>> flee = Game(plain, {("l", "l"): (1, 0), ("l", "r"): (0, 1), ("r", "l"): (0, 1), ("r", "r"): (1, 0)})
+>>> round_all = (("l", "l"), [("b", "r"), ("a", "r"), ("b", "l"), ("a", "l")])
+>>> [led(flee, (("l", "l"), [("b", "r")])), is_ring(flee, round_all), row_sum(flee, round_all), row_sum(meet, round_all)]
+[('l', 'r'), True, 4, 0]
+
+>>> from heightgames.fillings import account, filled, is_filling
+>>> from heightgames.heights import height, split, tops
+>>> from heightgames.squares import bad_square, sums
+>>> [height(meet), tops(meet), bad_square(meet), height(flee)]
+[{('l', 'l'): 0, ('l', 'r'): -2, ('r', 'l'): -2, ('r', 'r'): -1}, [('l', 'l')], None, None]
+>>> [bad_square(flee), sums(flee, bad_square(flee)), is_filling(flee, round_all, [(bad_square(flee), -1)])]
+[(('l', 'l'), 'a', 'b', 'r', 'r'), (-2, -2), True]
+>>> is_filling(flee, round_all, filled(flee, round_all))
+True
+>>> [split(meet)[1][("a", ("l",))], account(meet, (("l", "l"), [("a", "r")]))]
+[2, {('a', ('l', 'l')): -1, ('a', ('r', 'l')): 1}]
+
+>>> from heightgames.roads import Roads
+>>> from heightgames.ties import Ties
+>>> two = Roads({"a": {"h": ["x"], "l": ["y"]}, "b": {"h": ["x"], "l": ["y"]}}, {"x": [1, 3], "y": [2, 2]})
+>>> [two.loads(("h", "h")), two.game().gains(("h", "h")), two.height()[("h", "h")], two.height()[("h", "l")], two.cost(("h", "l"))]
+[{'x': 2, 'y': 0}, (-3, -3), -4, -3, 3]
+"""
+
+import doctest
+import sys
+import unittest
+
+
+class Examples(unittest.TestCase):
+    def test_examples(self):
+        found = doctest.testmod(sys.modules[__name__])
+        self.assertGreater(found.attempted, 0)
+        self.assertEqual(found.failed, 0)
+
+
+if __name__ == "__main__":
+    unittest.main()

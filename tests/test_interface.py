@@ -1,0 +1,55 @@
+"""The section "The interface": what must exist under which name, with which arguments, and where."""
+
+import importlib
+import inspect
+import unittest
+
+INTERFACE = {
+    "kinds": ["is_integer(thing)", "is_name(thing)", "is_shape(thing)", "is_change(thing)", "is_row(thing)"],
+    "rows": ["led(game, row)", "walked(game, row)", "row_sum(game, row)", "is_ring(game, thing)", "lines(game)",
+             "line_of(game, standing, chooser)", "along(game, line)"],
+    "squares": ["squares(game)", "bad_pairs(game)", "is_square(game, thing)", "ring_of(game, square)",
+                "sums(game, square)", "bad_square(game)"],
+    "fillings": ["account(game, row)", "filled(game, ring)", "is_filling(game, ring, thing)"],
+    "heights": ["height(game)", "is_height(game, thing)", "split(game)", "tops(game)", "nearer(game, standing, other)"],
+}
+CLASSES = {
+    "games": ("Game", ["__init__(self, ways, gains)", "__eq__(self, other)", "__len__(self)", "__contains__(self, x)",
+                       "__iter__(self)", "choosers(self)", "standings(self)", "ways(self, chooser)", "shape(self)",
+                       "gain(self, chooser, standing)", "gains(self, standing)", "changes(self, standing)",
+                       "goal(self, standing, change)", "own(self, standing, change)",
+                       "with_gains(self, standing, gains)", "plus(self, other)", "times(self, number)",
+                       "with_extra(self, chooser, others, number)", "kept(self, ways)"]),
+    "roads": ("Roads", ["__init__(self, uses, costs)", "__eq__(self, other)", "roads(self)", "used(self, chooser, way)",
+                        "costs(self, road)", "loads(self, standing)", "cost(self, standing)", "game(self)",
+                        "height(self)", "is_linear(self)", "with_costs(self, road, costs)"]),
+    "ties": ("Ties", ["__init__(self, ways, tables)", "__eq__(self, other)", "pairs(self)", "bad_ties(self)",
+                      "table(self, pair)", "tie_game(self, pair)", "game(self)", "neighbours(self, chooser)"]),
+}
+
+
+class Interface(unittest.TestCase):
+    def check(self, holder, told, module):
+        name = told.partition("(")[0]
+        found = holder[name]
+        self.assertTrue(inspect.isfunction(found))
+        self.assertEqual(found.__module__, module)
+        self.assertEqual(name + str(inspect.signature(found)), told)
+
+    def test_functions(self):
+        for name, functions in INTERFACE.items():
+            module = importlib.import_module("heightgames." + name)
+            for told in functions:
+                self.check(vars(module), told, module.__name__)
+
+    def test_classes(self):
+        for name, (kind, methods) in CLASSES.items():
+            module = importlib.import_module("heightgames." + name)
+            found = vars(module)[kind]
+            self.assertEqual(found.__module__, module.__name__)
+            for told in methods:
+                self.check(vars(found), told, module.__name__)
+
+
+if __name__ == "__main__":
+    unittest.main()

@@ -1,0 +1,95 @@
+"""Point 12: names exchanged one to one such that their order stays exchange the results likewise."""
+
+import unittest
+
+from heightgames import fillings, heights, rows, squares
+from heightgames.games import Game
+from heightgames.roads import Roads
+from heightgames.ties import Ties
+from tests.samples import CHOOSERS, SOME_SIZES, WAYS, Checks, any_game, bent_game, drawing, rings, steep_game
+from tests.test_roads import NAMES, any_costs, any_uses
+from tests.test_ties import any_tables
+
+NEW_NAMES = {old: new for old, new in zip(CHOOSERS, ("m", "mm", "n", "zzzzzzzz"))}
+NEW_NAMES.update({old: new for old, new in zip(NAMES, "abcdefg")})
+for ways_of_one in WAYS:
+    # The ways of all choosers get the same names.
+    NEW_NAMES.update(zip(ways_of_one, ("b", "ba", "bz", "c")))
+
+
+def renamed(thing):
+    """What a value is with other names."""
+    if isinstance(thing, str):
+        return NEW_NAMES[thing]
+    if isinstance(thing, dict):
+        return {renamed(key): renamed(worth) for key, worth in thing.items()}
+    if isinstance(thing, (list, tuple)):
+        return type(thing)(renamed(item) for item in thing)
+    return thing
+
+
+def told(game):
+    return (game.shape(), {standing: game.gains(standing) for standing in game})
+
+
+class Names(Checks):
+    def test_games_and_what_is_asked_of_them(self):
+        draw = drawing(71)
+        for sizes in SOME_SIZES:
+            for make in (steep_game, bent_game, any_game):
+                game = make(draw, sizes)
+                other = Game(*renamed(told(game)))
+                for call in (Game.choosers, Game.shape, Game.standings, list, rows.lines, squares.squares, squares.bad_square,
+                             squares.bad_pairs, heights.height, heights.split):
+                    self.exact(call(other), renamed(call(game)))
+                for standing in game:
+                    self.exact(other.changes(renamed(standing)), renamed(game.changes(standing)))
+                for line in rows.lines(game):
+                    self.exact(rows.along(other, renamed(line)), renamed(rows.along(game, line)))
+                for square in squares.squares(game)[:20]:
+                    for call in (squares.ring_of, squares.sums):
+                        self.exact(call(other, renamed(square)), renamed(call(game, square)))
+                if heights.height(game) is not None:
+                    self.exact(heights.tops(other), renamed(heights.tops(game)))
+                chooser = draw.choice(game.choosers())
+                ways = {chooser: game.ways(chooser)[:2]}
+                self.exact(told(other.kept(renamed(ways))), renamed(told(game.kept(ways))))
+                line = draw.choice(rows.lines(game))
+                self.exact(told(other.with_extra(*renamed(line), 3)), renamed(told(game.with_extra(*line, 3))))
+                for ring in rings(draw, game):
+                    for call in (rows.led, rows.walked, rows.row_sum, rows.is_ring, fillings.account):
+                        self.exact(call(other, renamed(ring)), renamed(call(game, ring)))
+                    self.assertIs(fillings.is_filling(other, renamed(ring), renamed(fillings.filled(game, ring))), True)
+
+    def test_roads(self):
+        draw = drawing(72)
+        for sizes in SOME_SIZES:
+            uses, costs = any_uses(draw, sizes), any_costs(draw, len(sizes))
+            roads, other = Roads(uses, costs), Roads(renamed(uses), renamed(costs))
+            self.exact(told(other.game()), renamed(told(roads.game())))
+            self.exact(other.height(), renamed(roads.height()))
+            self.exact(other.roads(), renamed(roads.roads()))
+            self.assertIs(other.is_linear(), roads.is_linear())
+            for standing in roads.game():
+                self.exact(other.loads(renamed(standing)), renamed(roads.loads(standing)))
+                self.exact(other.cost(renamed(standing)), roads.cost(standing))
+            for chooser in uses:
+                for way in uses[chooser]:
+                    self.exact(other.used(renamed(chooser), renamed(way)), renamed(roads.used(chooser, way)))
+
+    def test_ties(self):
+        draw = drawing(73)
+        for sizes in SOME_SIZES:
+            shape, tables = any_game(draw, sizes).shape(), any_tables(draw, sizes, 4)
+            ties, other = Ties(shape, tables), Ties(renamed(shape), renamed(tables))
+            self.exact(told(other.game()), renamed(told(ties.game())))
+            self.exact(other.pairs(), renamed(ties.pairs()))
+            self.exact(other.bad_ties(), renamed(ties.bad_ties()))
+            for pair in tables:
+                self.exact(other.table(renamed(pair)), renamed(ties.table(pair)))
+            for chooser in shape:
+                self.exact(other.neighbours(renamed(chooser)), renamed(ties.neighbours(chooser)))
+
+
+if __name__ == "__main__":
+    unittest.main()
