@@ -16,9 +16,9 @@ def standings_of(way_lists):
     return standings
 
 
-def put(standing, at, way):
-    """Return a standing with another way at a place."""
-    return standing[:at] + (way,) + standing[at + 1:]
+def put(items, at, item):
+    """Return a tuple, such as a standing, with another item at a place."""
+    return items[:at] + (item,) + items[at + 1:]
 
 
 def is_one_of(thing, tuples):
