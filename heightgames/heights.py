@@ -1,9 +1,8 @@
 """Heights by steps."""
 
 from heightgames.errors import NoHeight, NoStanding
-from heightgames.kinds import is_integer
 from heightgames.rows import along, lines
-from heightgames.shapes import put
+from heightgames.shapes import are_numbers, put
 
 
 def height(game):
@@ -25,9 +24,7 @@ def summed(game):
 
 def is_height(game, thing):
     """Return whether any value is a height by steps of a game."""
-    if not isinstance(thing, dict) or len(thing) != len(game):
-        return False
-    if not all([standing in thing and is_integer(thing[standing]) for standing in game]):
+    if not are_numbers(thing, game):
         return False
     return all([len(set(excesses(game, thing, line))) == 1 for line in lines(game)])
 

@@ -59,3 +59,25 @@ def along(game, line):
     chooser, others = line
     at = game.seat(chooser)
     return [others[:at] + (way,) + others[at:] for way in game.ways(chooser)]
+
+
+def lines_along(game):
+    """Return the dict from all lines to the lists of their standings."""
+    return {line: along(game, line) for line in lines(game)}
+
+
+def rises(game):
+    """Return the dict from all standings to the dicts from those one change away to the own gain of the change."""
+    found = {}
+    for standing in game:
+        found[standing] = {game.goal(standing, change): game.own(standing, change) for change in game.changes(standing)}
+    return found
+
+
+def row_through(game, places):
+    """Return the row that comes through a list of standings, each one change behind the one ahead."""
+    changes = []
+    for ahead, behind in zip(places, places[1:]):
+        at = [place for place, way in enumerate(ahead) if way != behind[place]][0]
+        changes.append((game.choosers()[at], behind[at]))
+    return (places[0], changes)

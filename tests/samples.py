@@ -6,6 +6,7 @@ import random
 import unittest
 
 from heightgames.errors import HeightError, NoStanding, Wrong
+from heightgames.facts import Facts
 from heightgames.games import Game
 from heightgames.roads import Roads
 from heightgames.ties import Ties
@@ -43,6 +44,12 @@ def one_tie():
     return Ties(PLAIN, {("a", "b"): {("l", "l"): (2, 2), ("l", "r"): (0, 0), ("r", "l"): (0, 0), ("r", "r"): (1, 1)}})
 
 
+def some_facts():
+    facts = Facts(PLAIN)
+    facts.tell(("a", ("l",)), (("r",), ("l",)))
+    return facts
+
+
 def odd_values():
     """Any values, new each time: such as can be keys of a dict and such as cannot."""
     deep = []
@@ -57,7 +64,7 @@ def odd_values():
         frozenset(["l", "r"]), {"l": "l"}, {"l": "r", "r": "l"}, {("l", "l"): 0}, ({}, {}), ([], []), ((), ()),
         ("a", "a"), ("a", "b"), ("b", "a"), ["a", "b"], ("a", "l", "r"), ("c", "l"), ["c", "l"], ("a",), ["a"],
         ("a", ("l", "l")), ("a", ("x",)), ("a", ()), ("a", ["l"]), ["a", ("l",)], ("a", "l"), (("l",), "a"),
-        (meet(), "l"), ("l", meet()), [meet()], meet(), lone(), two_roads(), one_tie(), Wrong(0), NoStanding([]),
+        (meet(), "l"), ("l", meet()), [meet()], meet(), lone(), two_roads(), one_tie(), some_facts(), Wrong(0), NoStanding([]),
         HeightError(), {"a": meet()}, {1: 2}, {None: []}, {("l", "l"): meet()}, {"a": []}, {"a": "lr"}, {"a": {}},
         {"a": ["l", "l"]}, {"a": [[]]}, {"a": [0]}, {"a": ["x"]}, {"c": ["l"]}, {1: ["l"]}, {("a",): ["l"]},
         {"a": None}, {"a": ["l", "r"], "b": [{}]},
@@ -106,6 +113,103 @@ def bent_game(draw, sizes, bound=9):
     gains = list(game.gains(standing))
     gains[draw.randrange(len(gains))] += draw.choice((-bound, -1, 1, bound))
     return game.with_gains(standing, gains)
+
+
+def flat_game(draw, sizes, bound=9):
+    """A game in which nobody gains by any change."""
+    return steep_game(draw, sizes, bound).times(0)
+
+
+def weighted_game(draw, sizes, bound=9):
+    """A game that has a height by weights: the height times a factor for each chooser, with extras."""
+    heights, extras = heights_and_extras(draw, sizes, bound)
+    factors = [draw.choice((1, 2, 3, 4, 6)) for _ in sizes]
+    gains = {standing: [factor * heights[standing] + extras[(CHOOSERS[at], standing[:at] + standing[at + 1:])]
+                        for at, factor in enumerate(factors)] for standing in heights}
+    return Game(shape_of(sizes), gains)
+
+
+def rising_game(draw, sizes, bound, gains_along):
+    """A game whose gains along each line come of the heights there, by a function."""
+    heights, extras = heights_and_extras(draw, sizes, min(bound, 9))
+    gains = {standing: [None] * len(sizes) for standing in heights}
+    for chooser, others in extras:
+        at = CHOOSERS.index(chooser)
+        along = [others[:at] + (way,) + others[at:] for way in shape_of(sizes)[chooser]]
+        found = gains_along(draw, [heights[standing] for standing in along], bound)
+        for standing, gain in zip(along, found):
+            gains[standing][at] = gain
+    return Game(shape_of(sizes), gains)
+
+
+def signed_game(draw, sizes, bound=9):
+    """A game that has a height by signs: gains along a line are in the order of the heights."""
+    def gains_along(draw, heights, bound):
+        numbers = set()
+        while len(numbers) < len(set(heights)):
+            numbers.add(draw.randint(-bound - 3, bound + 3))
+        numbers = sorted(numbers)
+        return [numbers[sorted(set(heights)).index(height)] for height in heights]
+    return rising_game(draw, sizes, bound, gains_along)
+
+
+def climbing_game(draw, sizes, bound=9):
+    """A game that has a height by betterings: who gains more is higher, but not the other way about."""
+    def gains_along(draw, heights, bound):
+        numbers = sorted(draw.randint(-bound, bound) for _ in set(heights))
+        return [numbers[sorted(set(heights)).index(height)] for height in heights]
+    return rising_game(draw, sizes, bound, gains_along)
+
+
+def best_game(draw, sizes, bound=9):
+    """A game that has a height by best betterings: the best ways of a line are its highest standings."""
+    def gains_along(draw, heights, bound):
+        low = draw.choice(sorted(set(heights)))
+        return [bound + 1 if height >= low else draw.randint(-bound, bound) for height in heights]
+    return rising_game(draw, sizes, bound, gains_along)
+
+
+def tied_game(draw, sizes, bound=9, pairs=6):
+    """A game made of ties, some of them with a height by weights."""
+    shape = shape_of(sizes)
+    tables = {}
+    both = list(itertools.combinations(sorted(shape), 2))
+    for one, other in draw.sample(both, min(pairs, len(both))):
+        factors = draw.choice(((1, 1), (1, 2), (3, 1), (0, 1), None))
+        tables[(one, other)] = {}
+        for place in itertools.product(shape[one], shape[other]):
+            common = draw.randint(-bound, bound)
+            gains = (draw.randint(-bound, bound), common) if factors is None else (factors[0] * common, factors[1] * common)
+            tables[(one, other)][place] = gains
+    return Ties(shape, tables).game()
+
+
+def with_extras(draw, game, bound=9):
+    """The game with extras along some lines."""
+    for _ in range(6):
+        standing = draw.choice(game.standings())
+        at = draw.randrange(len(standing))
+        game = game.with_extra(game.choosers()[at], standing[:at] + standing[at + 1:], draw.randint(-bound, bound))
+    return game
+
+
+def side_by_side(game, other):
+    """The game of the choosers of both, named anew, each of which gains what it gains in its own."""
+    sizes = [len(asked.ways(chooser)) for asked in (game, other) for chooser in asked.choosers()]
+    pairs = list(itertools.product(game.standings(), other.standings()))
+    standings = standings_of(shape_of(sizes))
+    return Game(shape_of(sizes), {standing: game.gains(one) + other.gains(two) for standing, (one, two) in zip(standings, pairs)})
+
+
+MAKERS = (steep_game, bent_game, any_game, flat_game, weighted_game, signed_game, climbing_game, best_game, tied_game)
+
+
+def games(draw, all_sizes, bounds=(1, 9, GREAT)):
+    """Games of all kinds."""
+    for sizes in all_sizes:
+        for make in MAKERS:
+            for bound in bounds:
+                yield make(draw, sizes, bound)
 
 
 def doing(standing, change):
@@ -173,6 +277,46 @@ def rings(draw, game):
     return [ring for ring in found if ring[1]]
 
 
+def begun_at(game, ring, at):
+    """The same ring, begun at another of its standings."""
+    standing = tuple(ring[0])
+    for change in ring[1][:at]:
+        standing = game.goal(standing, change)
+    return (standing, ring[1][at:] + ring[1][:at])
+
+
+def same_rings(game, ring):
+    """The same ring: with lists, begun elsewhere, gone through twice."""
+    lists = [list(ring[0]), [list(change) for change in ring[1]]]
+    return [ring, lists, (ring[0], tuple(ring[1])), (ring[0], ring[1] * 2),
+            begun_at(game, ring, 1), begun_at(game, ring, len(ring[1]) - 1)]
+
+
+def not_rings(ring):
+    """What is like a ring, but is none."""
+    standing, changes = ring
+    return [(standing, changes[:-1]), (standing, changes[1:]), (standing, []), (standing,), (standing, changes, changes), standing,
+            changes, {standing: changes}, {0: standing, 1: changes}, (standing, {change: 1 for change in changes}),
+            (standing, changes + [changes[-1]]), (standing, [changes[0]] + changes), (standing[:-1], changes), (changes, standing),
+            (standing, changes[:-1] + [None]), (standing, changes[:-1] + [changes[-1] + ("l",)]), (standing, changes * 60),
+            (standing[:-1] + (1,), changes), (standing[:-1] + ([],), changes), (frozenset(standing), changes),
+            (standing, [frozenset(change) for change in changes]), (standing, changes[:-1] + [("zoe", "z")]), [ring], (ring,)]
+
+
+def not_numbers(numbers):
+    """What is like a dict from just some standings to integers, but is none."""
+    standings = list(numbers)
+    last = standings[-1]
+    less = {standing: numbers[standing] for standing in standings[:-1]}
+    found = [less, {}, list(numbers.items()), standings, tuple(numbers.items()), {**numbers, "ll": 0}, {**numbers, (): 0},
+             {**numbers, last + last[:1]: 0}, {**numbers, last[:-1]: 0}, {**less, last[:-1] + ("zz",): numbers[last]},
+             {**less, last[:-1] + (1,): numbers[last]}, {**less, None: numbers[last]}, {**less, frozenset(last): numbers[last]},
+             {**less, (last,): numbers[last]}, {**numbers, True: 1}, {numbers[standing]: standing for standing in standings}]
+    found.extend({**numbers, last: value} for value in odd_values() if value.__class__ is not int)
+    found.extend({standing: value for standing in standings} for value in (None, True, "1", [0], (0,)))
+    return found
+
+
 class Checks(unittest.TestCase):
     """Assertions that the tests share."""
 
@@ -193,13 +337,36 @@ class Checks(unittest.TestCase):
     def wrong_at(self, place, call, *given):
         self.exact(self.raised(Wrong, call, *given).place, place)
 
-    def unchanged(self, call, *given):
+    def unchanged(self, call, *given, **more):
         """What a call returns, which changes none of what it is given, and tells the same when it is asked again."""
         before = copy.deepcopy(given)
-        result = call(*given)
+        result = call(*given, **more)
         self.assertEqual(given, before)
-        self.assertEqual(call(*given), result)
+        self.assertEqual(call(*given, **more), result)
         return result
+
+    def new_each_time(self, call, *given, **more):
+        """What a call returns may be changed by the caller, through and through."""
+        before = copy.deepcopy(given)
+        result = call(*given, **more)
+        kept = copy.deepcopy(result)
+        spoil(result)
+        self.assertEqual(given, before)
+        self.exact(call(*given, **more), kept)
+        return kept
+
+
+def spoil(thing):
+    """Change all lists and dicts in a value."""
+    if isinstance(thing, dict):
+        for worth in thing.values():
+            spoil(worth)
+        thing[("spoilt",)] = []
+    elif isinstance(thing, (list, tuple)):
+        for item in thing:
+            spoil(item)
+        if isinstance(thing, list):
+            thing.append("spoilt")
 
 
 def drawing(seed):

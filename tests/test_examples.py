@@ -28,6 +28,24 @@ True
 >>> two = Roads({"a": {"h": ["x"], "l": ["y"]}, "b": {"h": ["x"], "l": ["y"]}}, {"x": [1, 3], "y": [2, 2]})
 >>> [two.loads(("h", "h")), two.game().gains(("h", "h")), two.height()[("h", "h")], two.height()[("h", "l")], two.cost(("h", "l"))]
 [{'x': 2, 'y': 0}, (-3, -3), -4, -3, 3]
+>>> from heightgames.told import as_roads
+>>> as_roads(meet).game() == meet
+True
+
+>>> from heightgames.signs import sign_height, weak_ring
+>>> from heightgames.weights import against_weights, weighted_height, weights
+>>> lean = Game(plain, {("l", "l"): (2, 6), ("l", "r"): (0, 0), ("r", "l"): (0, 0), ("r", "r"): (1, 3)})
+>>> [weights(lean), weighted_height(lean)[("r", "r")], height(lean), against_weights(flee) == [bad_square(flee)]]
+[{'a': 3, 'b': 1}, -3, None, True]
+>>> [sign_height(meet), len(weak_ring(flee)[1]), weak_ring(lean)]
+[{('l', 'l'): 1, ('l', 'r'): 0, ('r', 'l'): 0, ('r', 'r'): 1}, 4, None]
+
+>>> from heightgames.betterings import bettering_ring, betterings, rests
+>>> from heightgames.climbs import climb, ends, lengths, longest
+>>> [betterings(meet, ("l", "r")), betterings(meet, ("l", "r"), best=True), rests(meet), rests(flee)]
+[[('a', 'r'), ('b', 'l')], [('a', 'r'), ('b', 'l')], [('l', 'l'), ('r', 'r')], []]
+>>> [climb(meet) == sign_height(meet), climb(flee), ends(meet, ("l", "r")), lengths(meet)[("r", "l")], longest(flee, ("l", "l"))]
+[True, None, [('l', 'l'), ('r', 'r')], 1, None]
 """
 
 import doctest

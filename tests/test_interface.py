@@ -12,6 +12,15 @@ INTERFACE = {
                 "sums(game, square)", "bad_square(game)"],
     "fillings": ["account(game, row)", "filled(game, ring)", "is_filling(game, ring, thing)"],
     "heights": ["height(game)", "is_height(game, thing)", "split(game)", "tops(game)", "nearer(game, standing, other)"],
+    "told": ["as_roads(game)", "as_ties(game)"],
+    "weights": ["links(game)", "groups(game)", "weights(game)", "weighted_height(game)", "is_weighted(game, numbers, thing)",
+                "against_weights(game)", "is_against_weights(game, thing)"],
+    "signs": ["levels(game)", "sign_height(game)", "is_sign_height(game, thing)", "weak_ring(game)", "is_weak_ring(game, thing)"],
+    "betterings": ["betterings(game, standing, *, best=False)", "is_rest(game, standing)", "rests(game)",
+                   "bettering_ring(game, *, best=False)", "is_bettering_ring(game, thing, *, best=False)"],
+    "climbs": ["climb(game, *, best=False)", "is_climb(game, thing, *, best=False)", "reached(game, standing, *, best=False)",
+               "ends(game, standing, *, best=False)", "longest(game, standing, *, best=False)", "lost(game, *, best=False)",
+               "lengths(game, *, best=False)"],
 }
 CLASSES = {
     "games": ("Game", ["__init__(self, ways, gains)", "__eq__(self, other)", "__len__(self)", "__contains__(self, x)",

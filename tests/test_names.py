@@ -2,11 +2,14 @@
 
 import unittest
 
-from heightgames import fillings, heights, rows, squares
+from heightgames import betterings, climbs, fillings, heights, rows, signs, squares, weights
 from heightgames.games import Game
 from heightgames.roads import Roads
 from heightgames.ties import Ties
-from tests.samples import CHOOSERS, SOME_SIZES, WAYS, Checks, any_game, bent_game, drawing, rings, steep_game
+from tests.samples import (
+    CHOOSERS, SOME_SIZES, WAYS, Checks, any_game, bent_game, climbing_game, drawing, rings, side_by_side, signed_game, steep_game,
+    weighted_game,
+)
 from tests.test_roads import NAMES, any_costs, any_uses
 from tests.test_ties import any_tables
 
@@ -60,6 +63,21 @@ class Names(Checks):
                     for call in (rows.led, rows.walked, rows.row_sum, rows.is_ring, fillings.account):
                         self.exact(call(other, renamed(ring)), renamed(call(game, ring)))
                     self.assertIs(fillings.is_filling(other, renamed(ring), renamed(fillings.filled(game, ring))), True)
+
+    def test_heights_of_all_kinds(self):
+        draw = drawing(74)
+        made = [make(draw, sizes) for sizes in SOME_SIZES for make in (weighted_game, signed_game, climbing_game, any_game)]
+        for game in made + [side_by_side(weighted_game(draw, (2, 2)), weighted_game(draw, (2, 3)))]:
+            other = Game(*renamed(told(game)))
+            for call in (weights.links, weights.groups, weights.weights, weights.weighted_height, signs.levels, signs.sign_height,
+                         betterings.rests, climbs.climb, climbs.lost, climbs.lengths):
+                self.exact(call(other), renamed(call(game)))
+            for call in (weights.against_weights, signs.weak_ring, betterings.bettering_ring):
+                self.assertIs(call(other) is None, call(game) is None)
+            for standing in game.standings()[::7]:
+                for call in (betterings.betterings, climbs.reached, climbs.ends):
+                    for best in (True, False):
+                        self.exact(call(other, renamed(standing), best=best), renamed(call(game, standing, best=best)))
 
     def test_roads(self):
         draw = drawing(72)
