@@ -20,13 +20,9 @@ def is_sign_height(game, thing):
     if not are_numbers(thing, game):
         return False
     own = rises(game)
-    return all([sign(thing[goal] - thing[standing]) == sign(own[standing][goal])
+    # Each change may be done back, so what rises neither there nor back stays.
+    return all([(thing[goal] > thing[standing]) == (own[standing][goal] > 0)
                 for standing in own for goal in own[standing]])
-
-
-def sign(number):
-    """Return 1, 0 or -1 for a number above 0, 0, or one below."""
-    return 1 if number > 0 else -1 if number < 0 else 0
 
 
 def weak_ring(game):

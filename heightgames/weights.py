@@ -27,9 +27,8 @@ def groups(game):
 
 
 def partners(game, pairs):
-    """Return the dict from the choosers to the lists of those with whom they are in a pair."""
-    return {chooser: [name for pair in pairs if chooser in pair for name in pair if name != chooser]
-            for chooser in game.choosers()}
+    """Return the dict from the choosers to the lists of all who are in a pair with them, themselves too."""
+    return {chooser: [name for pair in pairs if chooser in pair for name in pair] for chooser in game.choosers()}
 
 
 def weights(game):
@@ -103,7 +102,7 @@ def against_weights(game):
         first = list(table[pair])[0]
         for square in table[pair]:
             if are_unlike(table[pair][first], table[pair][square]):
-                return sorted([first, square])
+                return [first, square]
     return round_against(table)
 
 
@@ -124,7 +123,7 @@ def round_against(table):
     """
     # The squares of a pair ask for the same weights, so one of them is enough.
     samples = {pair: list(table[pair])[0] for pair in table}
-    for pairs in rounds_of(list(table)):
+    for pairs in rounds_of(table):
         if is_round_against({pair: table[pair][samples[pair]] for pair in pairs}):
             return sorted([samples[pair] for pair in pairs])
     return None

@@ -46,6 +46,23 @@ True
 [[('a', 'r'), ('b', 'l')], [('a', 'r'), ('b', 'l')], [('l', 'l'), ('r', 'r')], []]
 >>> [climb(meet) == sign_height(meet), climb(flee), ends(meet, ("l", "r")), lengths(meet)[("r", "l")], longest(flee, ("l", "l"))]
 [True, None, [('l', 'l'), ('r', 'r')], 1, None]
+>>> from heightgames.rounds import resting_order, rounds
+>>> [rounds(meet, ("l", "r"), ["a", "b"]), rounds(meet, ("l", "r"), ["b", "a"]), resting_order(flee)]
+[('rests', [('l', 'r'), ('r', 'r')]), ('rests', [('l', 'r'), ('l', 'l')]), None]
+>>> rounds(flee, ("l", "r"), ["a", "b"])
+('turns', [('l', 'r'), ('r', 'l'), ('l', 'r')])
+
+>>> from heightgames.ends import ending_game, fate, possible_ring, settling, sure_climb
+>>> from heightgames.facts import Facts, facts_of, is_possible, sure_rests
+>>> facts = facts_of(meet, [("a", ("l",)), ("a", ("r",)), ("b", ("l",))])
+>>> [facts.told()[("a", ("l",))], facts.untold(), is_possible(facts, ("r", "r"), ("b", "l")), sure_rests(facts)]
+[(('r',), ('l',)), [('b', ('r',))], True, [('l', 'l')]]
+>>> [fate(facts), sure_climb(facts), fate(Facts(plain)), settling(Facts(plain))]
+['ends', {('l', 'l'): 2, ('l', 'r'): 0, ('r', 'l'): 1, ('r', 'r'): 1}, 'open', []]
+
+>>> from heightgames.far import calm, far, near_height
+>>> [far(meet), far(flee), calm(meet), calm(flee), near_height(meet) == height(meet)]
+[(0, 1), (1, 1), 0, 1, True]
 """
 
 import doctest

@@ -21,6 +21,13 @@ INTERFACE = {
     "climbs": ["climb(game, *, best=False)", "is_climb(game, thing, *, best=False)", "reached(game, standing, *, best=False)",
                "ends(game, standing, *, best=False)", "longest(game, standing, *, best=False)", "lost(game, *, best=False)",
                "lengths(game, *, best=False)"],
+    "rounds": ["round_from(game, standing, order)", "rounds(game, standing, order)", "resting_order(game)", "turning(game, order)"],
+    "facts": ["facts_of(game, lines)", "is_sure(facts, standing, change)", "is_possible(facts, standing, change)",
+              "sure_rests(facts)", "possible_rests(facts)"],
+    "ends": ["fate(facts)", "sure_climb(facts)", "is_sure_climb(facts, thing)", "possible_ring(facts)", "ending_game(facts)",
+             "settling(facts)"],
+    "far": ["far(game)", "far_ring(game)", "calm_ring(game)", "near_height(game)", "calm(game)", "over_ranks(game, number)",
+            "is_far(game, amount, thing)", "is_near(game, amount, thing)"],
 }
 CLASSES = {
     "games": ("Game", ["__init__(self, ways, gains)", "__eq__(self, other)", "__len__(self)", "__contains__(self, x)",
@@ -34,6 +41,8 @@ CLASSES = {
                         "height(self)", "is_linear(self)", "with_costs(self, road, costs)"]),
     "ties": ("Ties", ["__init__(self, ways, tables)", "__eq__(self, other)", "pairs(self)", "bad_ties(self)",
                       "table(self, pair)", "tie_game(self, pair)", "game(self)", "neighbours(self, chooser)"]),
+    "facts": ("Facts", ["__init__(self, ways)", "__eq__(self, other)", "tell(self, line, order)", "forget(self, line)",
+                        "shape(self)", "told(self)", "untold(self)", "fits(self, game)", "copied(self)"]),
 }
 
 

@@ -2,7 +2,7 @@
 
 import unittest
 
-from heightgames import betterings, climbs, fillings, heights, rows, signs, squares, weights
+from heightgames import betterings, climbs, ends, facts, far, fillings, heights, rounds, rows, signs, squares, weights
 from heightgames.games import Game
 from heightgames.roads import Roads
 from heightgames.ties import Ties
@@ -78,6 +78,44 @@ class Names(Checks):
                 for call in (betterings.betterings, climbs.reached, climbs.ends):
                     for best in (True, False):
                         self.exact(call(other, renamed(standing), best=best), renamed(call(game, standing, best=best)))
+
+    def test_rounds_and_far(self):
+        draw = drawing(75)
+        for sizes in SOME_SIZES[:-1]:
+            for game in (any_game(draw, sizes), climbing_game(draw, sizes)):
+                other = Game(*renamed(told(game)))
+                order = draw.sample(game.choosers(), len(sizes))
+                self.exact(rounds.resting_order(other), renamed(rounds.resting_order(game)))
+                self.exact(rounds.turning(other, renamed(order)), renamed(rounds.turning(game, order)))
+                for standing in game.standings()[::7]:
+                    self.exact(rounds.round_from(other, renamed(standing), renamed(order)),
+                               renamed(rounds.round_from(game, standing, order)))
+                    word, places = rounds.rounds(game, standing, order)
+                    self.exact(rounds.rounds(other, renamed(standing), renamed(order)), (word, renamed(places)))
+                self.exact(far.far(other), far.far(game))
+                self.exact(far.calm(other), far.calm(game))
+                for number in (0, 3, far.calm(game)):
+                    self.exact(far.over_ranks(other, number), renamed(far.over_ranks(game, number)))
+
+    def test_facts(self):
+        draw = drawing(76)
+        for sizes in SOME_SIZES:
+            for share in (3, 9, 10):
+                lines = rows.lines(any_game(draw, sizes))
+                game = climbing_game(draw, sizes)
+                chosen = draw.sample(lines, len(lines) * share // 10)
+                some = facts.facts_of(game, chosen)
+                other = facts.facts_of(Game(*renamed(told(game))), renamed(chosen))
+                for call in (facts.Facts.told, facts.Facts.untold, facts.Facts.shape, facts.sure_rests, facts.possible_rests,
+                             ends.sure_climb):
+                    self.exact(call(other), renamed(call(some)))
+                self.exact(ends.fate(other), ends.fate(some))
+                if len(game) <= 27:
+                    self.exact(ends.settling(other), renamed(ends.settling(some)))
+                standing = draw.choice(game.standings())
+                for change in game.changes(standing):
+                    for call in (facts.is_sure, facts.is_possible):
+                        self.assertIs(call(other, renamed(standing), renamed(change)), call(some, standing, change))
 
     def test_roads(self):
         draw = drawing(72)

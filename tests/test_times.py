@@ -3,9 +3,10 @@
 import time
 import unittest
 
-from heightgames import betterings, climbs, signs, told, weights
+from heightgames import betterings, climbs, ends, facts, far, rounds, signs, told, weights
 from heightgames.errors import HeightError
-from tests.samples import GREAT, MAKERS, drawing
+from heightgames.rows import lines
+from tests.samples import GREAT, MAKERS, any_game, climbing_game, drawing, flat_game, signed_game
 
 SECONDS = 5
 
@@ -49,6 +50,48 @@ class Times(unittest.TestCase):
                 self.timed(call, game, (ring[0], ring[1] * (200 // max(1, len(ring[1])))))
             self.timed(weights.is_weighted, game, {chooser: 1 for chooser in game.choosers()}, numbers)
             self.timed(weights.is_against_weights, game, [(game.standings()[0], "ann", "bob", "anorth", "bnorth")] * 2000)
+
+    def test_rounds(self):
+        for game in self.games():
+            order = game.choosers()[::-1]
+            self.timed(rounds.resting_order, game)
+            self.timed(rounds.turning, game, order)
+            for call in (rounds.round_from, rounds.rounds):
+                self.timed(call, game, game.standings()[0], order)
+
+    def test_far(self):
+        for game in self.games():
+            numbers = {standing: at for at, standing in enumerate(game)}
+            ring = self.timed(far.far_ring, game) or (game.standings()[0], [])
+            for call in (far.far, far.near_height, far.calm, far.calm_ring):
+                self.timed(call, game)
+            for number in (0, 1, GREAT // 2):
+                self.timed(far.over_ranks, game, number)
+            self.timed(far.is_near, game, (GREAT, 7), numbers)
+            self.timed(far.is_far, game, (1, GREAT), (ring[0], ring[1] * (200 // max(1, len(ring[1])))))
+
+    def test_facts(self):
+        draw = drawing(902)
+        for game in self.games():
+            every = lines(game)
+            for many in (0, 3, len(every) // 2, len(every)):
+                some = self.timed(facts.facts_of, game, draw.sample(every, many))
+                for call in (facts.sure_rests, facts.possible_rests, ends.fate, ends.sure_climb, ends.possible_ring,
+                             ends.ending_game, facts.Facts.copied, facts.Facts.told, facts.Facts.untold):
+                    self.timed(call, some)
+                self.timed(some.fits, game)
+                self.timed(ends.is_sure_climb, some, {standing: at for at, standing in enumerate(game)})
+                for call in (facts.is_sure, facts.is_possible):
+                    self.timed(call, some, game.standings()[0], game.changes(game.standings()[0])[0])
+
+    def test_settling(self):
+        draw = drawing(903)
+        for sizes in ((3, 3, 3), (4, 3, 2), (4, 4, 1), (2, 2, 2, 3), (3, 3, 3, 1)):
+            for make in (any_game, climbing_game, signed_game, flat_game):
+                for left in (0, 1, 2, 4, 8, 12, 27):
+                    game = make(draw, sizes, 9)
+                    every = lines(game)
+                    self.timed(ends.settling, facts.facts_of(game, draw.sample(every, max(0, len(every) - left))))
 
 
 if __name__ == "__main__":

@@ -16,7 +16,7 @@ from heightgames.weights import (
 from tests.reference import moves
 from tests.samples import (
     CHOOSERS, GREAT, PLAIN, SIZES, SOME_SIZES, Checks, any_game, drawing, flee, games, lone, meet, not_numbers, odd_values,
-    shape_of, side_by_side, steep_game, tied_game, weighted_game, with_extras,
+    shape_of, side_by_side, standings_of, steep_game, tied_game, weighted_game, with_extras,
 )
 from tests.test_squares import wanted_squares, wanted_sums
 
@@ -224,6 +224,28 @@ class Weights(Checks):
             # With one pair more there is a round of three.
             more = {**{pair: (1, 1) for pair in itertools.combinations(range(4), 2)}, cycle[0]: (1, 7)}
             self.assertEqual(self.check(ratio_game((2, 2, 2, 2), more)), 3)
+
+    def test_threes_are_looked_for_ahead_of_fours(self):
+        # Four choosers go round without one pair, so one round of three is against weights if the one of four is.
+        for away in itertools.combinations(range(4), 2):
+            pairs = [pair for pair in itertools.combinations(range(4), 2) if pair != away]
+            for bent in pairs:
+                if not set(bent) & set(away):
+                    continue
+                factors = {pair: (1, 3) if pair == bent else (1, 1) for pair in pairs}
+                self.assertEqual(self.check(ratio_game((2, 2, 2, 2), factors)), 3)
+
+    def test_a_round_whose_squares_are_not_in_the_order_of_its_pairs(self):
+        # Ann and Bob are linked only where Cid takes its second way; Dora asks both for unlike weights.
+        shape = shape_of((2, 2, 2, 2))
+        gains = {}
+        for standing in standings_of(shape):
+            ann, bob, cid, dora = [shape[chooser].index(way) for chooser, way in zip(CHOOSERS, standing)]
+            all_three = ann * bob * cid
+            gains[standing] = (all_three + ann * dora, all_three + 2 * bob * dora, all_three, ann * dora + bob * dora)
+        game = Game(shape, gains)
+        self.assertEqual(self.check(game), 3)
+        self.exact([square[1:3] for square in against_weights(game)], [("ann", "dora"), ("bob", "dora"), ("ann", "bob")])
 
     def test_ties_with_and_without_extras(self):
         draw = drawing(207)
