@@ -34,9 +34,9 @@ def greatest_sums(own):
 def least_mean(totals):
     """Return the least mean of what the last total has more than each other, for each change that it has more."""
     many = len(totals) - 1
-    found = (totals[-1] - totals[0], many)
-    for fewer, total in enumerate(totals[:-1]):
-        mean = (totals[-1] - total, many - fewer)
+    means = [(totals[-1] - total, many - fewer) for fewer, total in enumerate(totals[:-1])]
+    found = means[0]
+    for mean in means:
         if is_less(mean, found):
             found = mean
     return found

@@ -22,6 +22,8 @@ SIZES = [sizes for many in (1, 2, 3, 4) for sizes in itertools.product((1, 2, 3,
          if len(list(itertools.product(*map(range, sizes)))) <= 81]
 SOME_SIZES = [(1,), (2,), (4,), (1, 1), (1, 3), (2, 2), (4, 3), (4, 4), (2, 1, 3), (3, 3, 3), (4, 4, 4),
               (1, 1, 1, 1), (2, 2, 2, 2), (4, 1, 2, 3), (3, 3, 3, 3)]
+SMALL_SIZES = [(1,), (4,), (1, 3), (2, 2), (4, 3), (2, 1, 3), (2, 2, 2), (2, 2, 2, 2)]
+GREAT_SIZES = [(4, 4, 4), (3, 3, 3, 3)]
 
 
 def meet():
@@ -210,6 +212,12 @@ def games(draw, all_sizes, bounds=(1, 9, GREAT)):
         for make in MAKERS:
             for bound in bounds:
                 yield make(draw, sizes, bound)
+
+
+def small_and_great_games(draw):
+    """Many small games of all kinds, and some of many standings."""
+    yield from games(draw, SMALL_SIZES, (1, GREAT))
+    yield from games(draw, GREAT_SIZES, (9,))
 
 
 def doing(standing, change):

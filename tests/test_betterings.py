@@ -10,8 +10,9 @@ from heightgames.heights import height, tops
 from heightgames.rows import is_ring
 from tests.reference import better_moves, graph, ring_size
 from tests.samples import (
-    GREAT, PLAIN, SIZES, SOME_SIZES, Checks, any_game, best_game, climbing_game, drawing, flat_game, flee, games, lone, meet,
-    not_rings, odd_values, rings, same_rings, side_by_side, steep_game, through, turned_about,
+    GREAT, PLAIN, SIZES, SOME_SIZES, Checks, any_game, best_game, climbing_game, drawing, flat_game, flee, games,
+    lone, meet, not_rings, odd_values, rings, same_rings, side_by_side, small_and_great_games, steep_game, through,
+    turned_about,
 )
 
 # There is a ring of best betterings, and a longer one of others.
@@ -67,11 +68,11 @@ class Betterings(Checks):
 
     def test_all_shapes(self):
         draw = drawing(401)
-        for sizes in SIZES[::3]:
+        for sizes in SIZES[::6]:
             self.check(any_game(draw, sizes))
 
     def test_all_kinds_of_games(self):
-        seen = {self.check(game) for game in games(drawing(402), SOME_SIZES, (1, GREAT))}
+        seen = {self.check(game) for game in small_and_great_games(drawing(402))}
         self.assertEqual(seen, {(True, True), (True, False), (False, False)})
 
     def test_games_with_heights(self):
@@ -129,7 +130,8 @@ class Betterings(Checks):
         self.exact(rests(flee()), [])
 
     def test_wrong_values(self):
-        for game in (meet(), flee()):
+        for make in (meet, flee):
+            game = make()
             for thing in odd_values() + [["l", "r"], ("l", "r", "l")]:
                 for call in (betterings, is_rest):
                     self.assertIs(self.raised(NoStanding, call, game, thing).standing, thing)
@@ -137,7 +139,7 @@ class Betterings(Checks):
                     with self.assertRaises(NoStanding) as caught:
                         betterings(game, thing, best=best)
                     self.assertIs(caught.exception.standing, thing)
-        self.assertEqual(meet(), meet())
+            self.assertEqual(game, make())
         # Only by keyword.
         for call in (lambda: betterings(meet(), ("l", "l"), True), lambda: bettering_ring(meet(), True),
                      lambda: is_bettering_ring(meet(), [], True)):

@@ -9,8 +9,8 @@ from heightgames.games import Game
 from heightgames.signs import sign_height
 from tests.reference import better_moves, graph, most_from, most_to, reach
 from tests.samples import (
-    GREAT, SIZES, SOME_SIZES, Checks, any_game, best_game, climbing_game, drawing, flat_game, flee, games, lone, meet,
-    not_numbers, odd_values, side_by_side, signed_game, steep_game,
+    GREAT, SIZES, SOME_SIZES, Checks, any_game, best_game, climbing_game, drawing, flat_game, flee, lone, meet,
+    not_numbers, odd_values, side_by_side, signed_game, small_and_great_games, steep_game,
 )
 
 
@@ -65,7 +65,7 @@ class Climbs(Checks):
             self.assertEqual(self.check(climbing_game(draw, sizes, 3)), (True, True))
 
     def test_all_kinds_of_games(self):
-        seen = {self.check(game) for game in games(drawing(502), SOME_SIZES[::2], (1, GREAT))}
+        seen = {self.check(game) for game in small_and_great_games(drawing(502))}
         self.assertEqual(seen, {(True, True), (False, True), (False, False)})
 
     def test_games_with_a_height_by_best_betterings(self):
@@ -138,13 +138,15 @@ class Climbs(Checks):
         self.exact(longest(flee(), ("l", "l")), None)
 
     def test_wrong_values(self):
-        for game in (meet(), flee()):
+        for make in (meet, flee):
+            game = make()
             for thing in odd_values() + [["l", "r"], ("l", "r", "l")]:
                 for call in (reached, ends, longest):
                     self.assertIs(self.raised(NoStanding, call, game, thing).standing, thing)
                     with self.assertRaises(NoStanding) as caught:
                         call(game, thing, best=True)
                     self.assertIs(caught.exception.standing, thing)
+            self.assertEqual(game, make())
         for call in (reached, ends, longest):
             self.assertRaises(TypeError, lambda: call(meet(), ("l", "l"), True))
         for call in (climb, lost, lengths):

@@ -10,10 +10,10 @@ from heightgames.facts import Facts, facts_of
 from heightgames.games import Game
 from tests.reference import orders_of, reach
 from tests.samples import (
-    GREAT, PLAIN, SOME_SIZES, Checks, any_game, climbing_game, drawing, flee, lone, meet, not_numbers, odd_values, shape_of,
-    signed_game, standings_of,
+    GREAT, PLAIN, SOME_SIZES, Checks, any_game, climbing_game, drawing, flee, lone, meet, not_numbers, odd_values,
+    shape_of, signed_game, standings_of,
 )
-from tests.test_facts import any_facts, any_order, fitting, lines_of, rank
+from tests.test_facts import any_facts, fitting, lines_of, rank
 
 RING = [(("l", "l"), ("b", "r")), (("l", "r"), ("a", "r")), (("r", "r"), ("b", "l")), (("r", "l"), ("a", "l"))]
 

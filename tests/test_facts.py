@@ -9,8 +9,8 @@ from heightgames.games import Game
 from heightgames.kinds import is_shape
 from tests.reference import moves, orders_of
 from tests.samples import (
-    GREAT, PLAIN, SIZES, SOME_SIZES, Checks, any_game, drawing, flee, lone, meet, odd_values, one_tie, shape_of, standings_of,
-    steep_game, two_roads,
+    GREAT, PLAIN, SIZES, SOME_SIZES, Checks, any_game, drawing, flee, lone, meet, odd_values, one_tie, shape_of,
+    standings_of, steep_game, two_roads,
 )
 
 LINE = ("a", ("l",))

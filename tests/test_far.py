@@ -12,8 +12,9 @@ from heightgames.heights import height
 from heightgames.rows import is_ring, row_sum
 from tests.reference import graph, most_to, moves, ring_size
 from tests.samples import (
-    GREAT, PLAIN, SIZES, SOME_SIZES, Checks, any_game, bent_game, climbing_game, drawing, flat_game, flee, games, lone, meet,
-    not_numbers, not_rings, odd_values, rings, same_rings, side_by_side, steep_game, through, turned_about, weighted_game,
+    GREAT, PLAIN, SIZES, Checks, any_game, bent_game, climbing_game, drawing, flat_game, flee, games, lone, meet,
+    not_numbers, not_rings, odd_values, rings, same_rings, side_by_side, small_and_great_games, steep_game, through,
+    turned_about, weighted_game,
 )
 
 
@@ -100,11 +101,11 @@ class Far(Checks):
 
     def test_all_shapes(self):
         draw = drawing(1002)
-        for sizes in SIZES[::5]:
+        for sizes in SIZES[::9]:
             self.check(any_game(draw, sizes, 99))
 
     def test_all_kinds_of_games(self):
-        seen = {self.check(game) == (0, 1) for game in games(drawing(1003), SOME_SIZES, (1, GREAT))}
+        seen = {self.check(game) == (0, 1) for game in small_and_great_games(drawing(1003))}
         self.assertEqual(seen, {True, False})
 
     def test_side_by_side(self):

@@ -9,7 +9,7 @@ from heightgames.errors import NoStanding
 from heightgames.games import Game
 from heightgames.rounds import resting_order, round_from, rounds, turning
 from tests.samples import (
-    GREAT, SIZES, SOME_SIZES, Checks, any_game, best_game, drawing, flee, games, lone, meet, odd_values, side_by_side, steep_game,
+    GREAT, SIZES, Checks, any_game, best_game, drawing, flee, games, lone, meet, odd_values, side_by_side, steep_game,
 )
 
 
@@ -83,7 +83,8 @@ class Rounds(Checks):
 
     def test_all_kinds_of_games(self):
         draw = drawing(602)
-        seen = {self.check(game) for game in games(draw, ((1,), (2, 2), (4, 3), (2, 1, 3), (3, 3, 3), (2, 2, 2, 2)), (1, GREAT))}
+        small, great = ((1,), (2, 2), (4, 3), (2, 1, 3)), ((3, 3, 3), (2, 2, 2, 2))
+        seen = {self.check(game) for sizes, bounds in ((small, (1, GREAT)), (great, (2,))) for game in games(draw, sizes, bounds)}
         self.assertEqual(seen, {(True, True), (True, False), (False, False)})
 
     def test_great_games(self):
@@ -138,10 +139,12 @@ class Rounds(Checks):
         self.assertIsNot(bettering_ring(flee()), None)
 
     def test_wrong_values(self):
-        for game in (meet(), flee()):
+        for make in (meet, flee):
+            game = make()
             for thing in odd_values() + [["l", "r"], ("l", "r", "l")]:
                 for call in (round_from, rounds):
                     self.assertIs(self.raised(NoStanding, call, game, thing, ["a", "b"]).standing, thing)
+            self.assertEqual(game, make())
 
     def test_what_is_handed_in_and_returned(self):
         order = ["b", "a"]

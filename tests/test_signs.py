@@ -8,8 +8,9 @@ from heightgames.signs import is_sign_height, is_weak_ring, levels, sign_height,
 from heightgames.weights import weighted_height
 from tests.reference import graph, moves, reach, ring_size, sign
 from tests.samples import (
-    GREAT, PLAIN, SIZES, SOME_SIZES, Checks, any_game, bent_game, drawing, flat_game, flee, games, lone, meet, not_numbers,
-    not_rings, odd_values, rings, same_rings, side_by_side, signed_game, steep_game, through, turned_about, weighted_game,
+    GREAT, PLAIN, SIZES, SOME_SIZES, Checks, any_game, bent_game, drawing, flat_game, flee, games, lone, meet,
+    not_numbers, not_rings, odd_values, rings, same_rings, side_by_side, signed_game, small_and_great_games,
+    steep_game, through, turned_about, weighted_game,
 )
 
 
@@ -78,11 +79,11 @@ class Signs(Checks):
 
     def test_all_shapes(self):
         draw = drawing(301)
-        for sizes in SIZES[::3]:
+        for sizes in SIZES[::6]:
             self.assertTrue(self.check(signed_game(draw, sizes, 9)))
 
     def test_all_kinds_of_games(self):
-        seen = {self.check(game) for game in games(drawing(302), SOME_SIZES, (1, GREAT))}
+        seen = {self.check(game) for game in small_and_great_games(drawing(302))}
         self.assertEqual(seen, {True, False})
 
     def test_weights_are_signs(self):

@@ -11,7 +11,7 @@ from heightgames.squares import bad_square
 from heightgames.ties import Ties
 from heightgames.told import as_roads, as_ties
 from tests.samples import (
-    GREAT, SIZES, SOME_SIZES, Checks, any_game, bent_game, drawing, flee, games, lone, meet, shape_of,
+    GREAT, SIZES, SOME_SIZES, Checks, any_game, bent_game, drawing, flee, lone, meet, shape_of, small_and_great_games,
     standings_of, steep_game, tied_game, two_roads,
 )
 from tests.test_roads import any_costs, any_uses
@@ -54,7 +54,7 @@ class ByRoads(Checks):
             self.assertTrue(self.check(steep_game(draw, sizes, GREAT)))
 
     def test_all_kinds_of_games(self):
-        seen = {self.check(game) for game in games(drawing(102), SOME_SIZES)}
+        seen = {self.check(game) for game in small_and_great_games(drawing(102))}
         self.assertEqual(seen, {True, False})
 
     def test_what_roads_tell_is_told_by_roads(self):
@@ -110,7 +110,7 @@ class ByTies(Checks):
             self.assertTrue(self.check(game))
 
     def test_all_kinds_of_games(self):
-        seen = {self.check(game) for game in games(drawing(112), SOME_SIZES)}
+        seen = {self.check(game) for game in small_and_great_games(drawing(112))}
         self.assertEqual(seen, {True, False})
 
     def test_two_choosers_always_have_ties(self):

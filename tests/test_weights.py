@@ -15,8 +15,8 @@ from heightgames.weights import (
 )
 from tests.reference import moves
 from tests.samples import (
-    CHOOSERS, GREAT, PLAIN, SIZES, SOME_SIZES, Checks, any_game, drawing, flee, games, lone, meet, not_numbers, odd_values,
-    shape_of, side_by_side, standings_of, steep_game, tied_game, weighted_game, with_extras,
+    CHOOSERS, GREAT, PLAIN, SIZES, SOME_SIZES, Checks, any_game, drawing, flee, lone, meet, not_numbers, odd_values,
+    shape_of, side_by_side, small_and_great_games, standings_of, steep_game, tied_game, weighted_game, with_extras,
 )
 from tests.test_squares import wanted_squares, wanted_sums
 
@@ -178,7 +178,7 @@ class Weights(Checks):
 
     def test_all_kinds_of_games(self):
         draw = drawing(202)
-        seen = {self.check(game) for game in games(draw, SOME_SIZES, (1, GREAT))}
+        seen = {self.check(game) for game in small_and_great_games(draw)}
         self.assertLessEqual({None, 1}, seen)
 
     def test_steps_are_weights_of_one(self):
