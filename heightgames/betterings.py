@@ -1,7 +1,8 @@
 """Betterings, the best ones, and rings of them."""
 
-from heightgames.rows import is_ring, row_through, walked
-from heightgames.shapes import shortest_ring
+from heightgames.graphs import shortest_ring
+from heightgames.places import are_steps, better, row_through
+from heightgames.rows import is_ring, walked
 
 
 def betterings(game, standing, *, best=False):
@@ -18,12 +19,6 @@ def best_of(game, standing, changes):
     return [change for change in changes if game.own(standing, change) == most[change[0]]]
 
 
-def better(game, best):
-    """Return the graph of the betterings, or of the best ones."""
-    return {standing: [game.goal(standing, change) for change in betterings(game, standing, best=best)]
-            for standing in game}
-
-
 def is_rest(game, standing):
     """Return whether there are no betterings at a standing."""
     return len(betterings(game, standing)) == 0
@@ -31,7 +26,7 @@ def is_rest(game, standing):
 
 def rests(game):
     """Return the ascending list of the rests."""
-    return [standing for standing in game if is_rest(game, standing)]
+    return [standing for standing, goals in zip(game.standings(), better(game, False)) if not goals]
 
 
 def bettering_ring(game, *, best=False):
@@ -43,7 +38,4 @@ def bettering_ring(game, *, best=False):
 
 def is_bettering_ring(game, thing, *, best=False):
     """Return whether any value is a ring all of whose changes are betterings."""
-    if not is_ring(game, thing):
-        return False
-    places = walked(game, thing)
-    return all([tuple(change) in betterings(game, places[at], best=best) for at, change in enumerate(thing[1])])
+    return is_ring(game, thing) and are_steps(game, better(game, best), walked(game, thing))

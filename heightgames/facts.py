@@ -3,7 +3,8 @@
 from heightgames.errors import NoLine, NoOrder, Untold, Wrong
 from heightgames.games import Game
 from heightgames.kinds import is_name, is_shape
-from heightgames.rows import along, line_of, lines_along
+from heightgames.places import at_places
+from heightgames.rows import along, line_of, lines_by_places
 from heightgames.shapes import sorted_ways, standings_of
 
 
@@ -15,7 +16,7 @@ class Facts:
             raise Wrong(0)
         # A Game without gains knows what the standings, lines and changes of the shape are.
         self.ground = Game(ways, {standing: [0] * len(ways) for standing in standings_of(sorted_ways(ways))})
-        self.line_table = lines_along(self.ground)
+        self.line_table = lines_by_places(self.ground)
         self.order_table = {}
 
     def __eq__(self, other):
@@ -70,14 +71,14 @@ class Facts:
         """Return whether a line is told."""
         return line in self.order_table
 
-    def levels_along(self, line):
-        """Return the dict from the standings of a line that is told to the places of their ways in its order."""
-        at = self.ground.seat(line[0])
-        found = {}
-        for standing in self.line_table[line]:
-            ways = [tied for tied in self.order_table[line] if standing[at] in tied]
-            found[standing] = self.order_table[line].index(ways[0])
-        return found
+    def way_ranks(self, line):
+        """Return the dict from the ways of a line that is told to their places in its order."""
+        return {way: at for at, tied in enumerate(self.order_table[line]) for way in tied}
+
+    def ranks_along(self, line):
+        """Return the list of the places of the ways of a line that is told in its order, by way."""
+        ranks = self.way_ranks(line)
+        return [ranks[way] for way in self.ground.way_lists[line[0]]]
 
 
 def is_order(thing, ways):
@@ -108,32 +109,33 @@ def facts_of(game, lines):
 
 
 def sure_goals(facts):
-    """Return the graph of the changes that are betterings in all games that fit."""
-    nexts = {standing: [] for standing in facts.ground}
+    """Return the graph, by places, of the changes that are betterings in all games that fit."""
+    nexts = [[] for standing in facts.ground.standings()]
     for line in facts.told():
-        level = facts.levels_along(line)
-        for standing in level:
-            nexts[standing].extend([goal for goal in level if level[goal] > level[standing]])
+        places, ranks = facts.line_table[line], facts.ranks_along(line)
+        for place, here in zip(places, ranks):
+            nexts[place].extend([goal for goal, there in zip(places, ranks) if there > here])
     return nexts
 
 
-def untold_goals(facts):
-    """Return the graph of the changes along untold lines."""
-    nexts = {standing: [] for standing in facts.ground}
-    for line in facts.untold():
-        for standing in facts.line_table[line]:
-            nexts[standing].extend([goal for goal in facts.line_table[line] if goal != standing])
+def free_goals(facts, lines):
+    """Return the graph, by places, of the changes along some lines."""
+    nexts = [[] for standing in facts.ground.standings()]
+    for line in lines:
+        for place in facts.line_table[line]:
+            nexts[place].extend([goal for goal in facts.line_table[line] if goal != place])
     return nexts
 
 
 def is_sure(facts, standing, change):
     """Return whether a change is a bettering in all games that fit."""
-    goal = facts.ground.goal(standing, change)
-    line = line_of(facts.ground, standing, change[0])
+    facts.ground.goal(standing, change)
+    chooser, way = change
+    line = line_of(facts.ground, standing, chooser)
     if not facts.tells(line):
         return False
-    level = facts.levels_along(line)
-    return level[goal] > level[standing]
+    ranks = facts.way_ranks(line)
+    return ranks[way] > ranks[standing[facts.ground.seat(chooser)]]
 
 
 def is_possible(facts, standing, change):
@@ -145,11 +147,10 @@ def is_possible(facts, standing, change):
 
 def sure_rests(facts):
     """Return the ascending list of the standings that are rests in all games that fit."""
-    sure, free = sure_goals(facts), untold_goals(facts)
-    return [standing for standing in sure if not sure[standing] and not free[standing]]
+    sure, free = sure_goals(facts), free_goals(facts, facts.untold())
+    return at_places(facts.ground, [place for place in range(len(sure)) if not sure[place] and not free[place]])
 
 
 def possible_rests(facts):
     """Return the ascending list of the standings that are rests in some game that fits."""
-    sure = sure_goals(facts)
-    return [standing for standing in sure if not sure[standing]]
+    return at_places(facts.ground, [place for place, sure in enumerate(sure_goals(facts)) if not sure])

@@ -1,77 +1,99 @@
 """How far a game is from a height, and above which own gains betterings end."""
 
-from heightgames.rows import is_ring, rises, row_sum, row_through
-from heightgames.shapes import are_numbers, divisor, over, ranks, shortest_ring, singles
+from heightgames.graphs import ranks, shortest_ring
+from heightgames.places import by_places, by_standings, over, row_through, seats
+from heightgames.rows import is_ring, row_sum
+from heightgames.shapes import are_numbers, lowest
 
 
 def far(game):
     """Return the greatest mean of a ring as an amount."""
-    own = rises(game)
-    if len(own) == 1:
-        return (0, 1)
-    totals = greatest_sums(own)
-    found = (0, 1)
-    for standing in own:
-        mean = least_mean([total[standing] for total in totals])
-        if is_less(found, mean):
-            found = mean
-    common = divisor(found[0], found[1])
-    return (found[0] // common, found[1] // common)
-
-
-def greatest_sums(own):
-    """Return for 0, 1, .. changes the dict from all standings to the greatest sum of so many that lead there.
-
-    The last one is for as many changes as there are standings, so that such a row comes through a ring.
-    """
-    found = [{standing: 0 for standing in own}]
-    for many in range(len(own)):
-        found.append({standing: max([found[many][ahead] + own[ahead][standing] for ahead in own[standing]])
-                      for standing in own})
-    return found
-
-
-def least_mean(totals):
-    """Return the least mean of what the last total has more than each other, for each change that it has more."""
-    many = len(totals) - 1
-    means = [(totals[-1] - total, many - fewer) for fewer, total in enumerate(totals[:-1])]
-    found = means[0]
-    for mean in means:
-        if is_less(mean, found):
-            found = mean
-    return found
-
-
-def is_less(amount, other):
-    """Return whether a top divided by a bottom is less than another one."""
-    return amount[0] * other[1] < other[0] * amount[1]
+    return searched(game)[0]
 
 
 def far_ring(game):
     """Return a ring whose mean is the greatest one, or None if that is 0."""
-    amount = far(game)
-    if amount == (0, 1):
-        return None
-    own = rises(game)
-    heights = near_height(game)
-    # No change rises by less than its share of such a ring asks; in the ring none by more.
-    tight = {standing: [goal for goal in own[standing]
-                        if heights[goal] - heights[standing] == amount[1] * own[standing][goal] - amount[0]]
-             for standing in own}
-    return row_through(game, shortest_ring(tight, tight))
+    ring = searched(game)[1]
+    return None if ring is None else row_through(game, ring)
 
 
 def near_height(game):
     """Return a dict from all standings to numbers that rise by as much as the own gains, but for far."""
-    top, bottom = far(game)
-    own = rises(game)
-    found = {game.standings()[0]: 0}
-    # The greatest sums of rows from the least standing, each change counting less by far: no ring adds to them.
-    for turn in range(len(game)):
-        for standing in game.standings()[1:]:
-            found[standing] = max([found[ahead] + bottom * own[ahead][standing] - top
-                                   for ahead in own[standing] if ahead in found])
-    return {standing: found[standing] for standing in game}
+    numbers = searched(game)[2]
+    return by_standings(game, [number - numbers[0] for number in numbers])
+
+
+def searched(game):
+    """Return the greatest mean of a ring, such a ring through places, or None, and numbers by places.
+
+    The numbers are those of which near_height tells, any at the least standing.
+    """
+    amount = (0, 1)
+    ring = None
+    while True:
+        better_ring, numbers = settled(game, amount)
+        if better_ring is None:
+            return (amount, ring, numbers)
+        ring = better_ring
+        amount = mean(game, ring)
+
+
+def mean(game, ring):
+    """Return the mean of a ring through places as an amount."""
+    return lowest(row_sum(game, row_through(game, ring)), len(ring) - 1)
+
+
+def settled(game, amount):
+    """Return a ring through places of a greater mean than an amount, or None, and numbers by places.
+
+    The numbers rise by as much as the own gains, but for the amount, if there is no such ring.
+    """
+    top, bottom = amount
+    along = [([bottom * gain for gain in gains], lines) for gains, lines in seats(game)]
+    numbers = [0] * len(game)
+    sources = [None] * len(game)
+    changed = True
+    while changed:
+        changed = False
+        for gains, lines in along:
+            for line in lines:
+                if lift(numbers, sources, gains, line, top):
+                    changed = True
+        ring = ring_of_sources(sources) if changed else None
+        if ring is not None:
+            return (ring, numbers)
+    return (None, numbers)
+
+
+def lift(numbers, sources, gains, line, top):
+    """Raise numbers along a line as far as gains ask, less top, note whence, and return whether there are any."""
+    extras = [numbers[place] - gains[place] for place in line]
+    most = max(extras)
+    if most - min(extras) <= top:
+        return False
+    source = line[extras.index(most)]
+    for place, extra in zip(line, extras):
+        if most - extra > top:
+            numbers[place] = gains[place] + most - top
+            sources[place] = source
+    return True
+
+
+def ring_of_sources(sources):
+    """Return a ring, the first place again at its end, that leads from sources to those they are of, or None."""
+    # Each source was told later than what came before it, so a ring of them gains more than it loses.
+    seen = [None] * len(sources)
+    for start in range(len(sources)):
+        place = start
+        while place is not None and seen[place] is None:
+            seen[place] = start
+            place = sources[place]
+        if place is not None and seen[place] == start:
+            ring = [place, sources[place]]
+            while ring[-1] != place:
+                ring.append(sources[ring[-1]])
+            return ring[::-1]
+    return None
 
 
 def is_far(game, amount, thing):
@@ -83,26 +105,41 @@ def is_far(game, amount, thing):
 
 def is_near(game, amount, thing):
     """Return whether any value is a dict of numbers that rise by as much as the own gains, but for an amount."""
-    if not are_numbers(thing, game):
+    if not are_numbers(thing, game.standings()):
         return False
     top, bottom = amount
-    own = rises(game)
-    return all([abs(thing[goal] - thing[standing] - bottom * own[standing][goal]) <= top
-                for standing in own for goal in own[standing]])
+    numbers = by_places(game, thing)
+    for gains, lines in seats(game):
+        for line in lines:
+            extras = [numbers[place] - bottom * gains[place] for place in line]
+            if max(extras) - min(extras) > top:
+                return False
+    return True
 
 
 def calm(game):
     """Return the least integer from 0 on such that no ring has only betterings of a greater own gain."""
-    own = rises(game)
-    numbers = sorted(set([0] + [number for goals in own.values() for number in goals.values() if number > 0]))
+    numbers = own_gains(game)
     low, high = 0, len(numbers) - 1
     while low < high:
         middle = (low + high) // 2
-        if over_ranks(game, numbers[middle]) is None:
+        if None in ranks(over(game, numbers[middle])):
             low = middle + 1
         else:
             high = middle
     return numbers[low]
+
+
+def own_gains(game):
+    """Return the ascending list of 0 and all own gains of betterings."""
+    found = {0: True}
+    for gains, lines in seats(game):
+        for line in lines:
+            for place in line:
+                for goal in line:
+                    if gains[goal] > gains[place]:
+                        found[gains[goal] - gains[place]] = True
+    return sorted(found)
 
 
 def calm_ring(game):
@@ -110,11 +147,11 @@ def calm_ring(game):
     number = calm(game)
     if number == 0:
         return None
-    nexts = over(rises(game), number - 1)
+    nexts = over(game, number - 1)
     return row_through(game, shortest_ring(nexts, nexts))
 
 
 def over_ranks(game, number):
     """Return the most changes of a row of betterings of a greater own gain that leads there, or None for a ring."""
-    nexts = over(rises(game), number)
-    return ranks(nexts, singles(nexts))
+    found = ranks(over(game, number))
+    return None if None in found else by_standings(game, found)

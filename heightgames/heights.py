@@ -1,45 +1,54 @@
 """Heights by steps."""
 
 from heightgames.errors import NoHeight, NoStanding
-from heightgames.rows import along, lines
-from heightgames.shapes import are_numbers, put
+from heightgames.places import by_places, by_standings, seats
+from heightgames.rows import lines
+from heightgames.shapes import are_numbers
 
 
 def height(game):
     """Return the height by steps that is 0 at the least standing, or None."""
     found = summed(game)
-    return found if is_height(game, found) else None
+    return None if extras_over(game, found) is None else by_standings(game, found)
 
 
 def summed(game):
-    """Return the dict from all standings to the sum of one row from the least standing to each."""
-    least = game.standings()[0]
-    found = {least: 0}
-    for standing in game.standings()[1:]:
-        at = [place for place, way in enumerate(standing) if way != least[place]][0]
-        ahead = put(standing, at, least[at])
-        found[standing] = found[ahead] + game.gains(standing)[at] - game.gains(ahead)[at]
+    """Return the list, by places, of the sum of one row from the least standing to each."""
+    found = [0] * len(game)
+    along = seats(game)
+    known = 1
+    for gains, every in reversed(along):
+        # The first lines begin at the places that are known already.
+        for line in every[:known]:
+            for place in line[1:]:
+                found[place] = found[line[0]] + gains[place] - gains[line[0]]
+        known = known * len(every[0])
+    return found
+
+
+def extras_over(game, numbers):
+    """Return the list of what choosers gain more than numbers, by places, all along their lines, or None."""
+    found = []
+    for gains, every in seats(game):
+        for line in every:
+            extra = gains[line[0]] - numbers[line[0]]
+            for place in line:
+                if gains[place] - numbers[place] != extra:
+                    return None
+            found.append(extra)
     return found
 
 
 def is_height(game, thing):
     """Return whether any value is a height by steps of a game."""
-    if not are_numbers(thing, game):
-        return False
-    return all([len(set(excesses(game, thing, line))) == 1 for line in lines(game)])
-
-
-def excesses(game, heights, line):
-    """Return how much more than heights the chooser of a line gains, for each standing of the line."""
-    return [game.gain(line[0], standing) - heights[standing] for standing in along(game, line)]
+    return are_numbers(thing, game.standings()) and extras_over(game, by_places(game, thing)) is not None
 
 
 def split(game):
     """Return the tuple of the height and of the dict from all lines to their extras, or None."""
-    found = height(game)
-    if found is None:
-        return None
-    return (found, {line: excesses(game, found, line)[0] for line in lines(game)})
+    found = summed(game)
+    extras = extras_over(game, found)
+    return None if extras is None else (by_standings(game, found), dict(zip(lines(game), extras)))
 
 
 def tops(game):

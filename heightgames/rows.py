@@ -2,6 +2,7 @@
 
 from heightgames.errors import NoLine, NoStanding, NoStep, Wrong
 from heightgames.kinds import is_row
+from heightgames.places import place_lines
 from heightgames.shapes import put
 
 
@@ -43,7 +44,18 @@ def is_ring(game, thing):
 
 def lines(game):
     """Return the ascending list of all lines."""
-    return sorted({line_of(game, standing, chooser) for standing in game for chooser in game.choosers()})
+    return list(lines_by_places(game))
+
+
+def lines_by_places(game):
+    """Return the ascending dict from all lines to the lists of their places by way."""
+    every = place_lines(game)
+    found = {}
+    for at, chooser in enumerate(game.choosers()):
+        for places in every[at]:
+            standing = game.standing_list[places[0]]
+            found[(chooser, standing[:at] + standing[at + 1:])] = places
+    return found
 
 
 def line_of(game, standing, chooser):
@@ -59,25 +71,3 @@ def along(game, line):
     chooser, others = line
     at = game.seat(chooser)
     return [others[:at] + (way,) + others[at:] for way in game.ways(chooser)]
-
-
-def lines_along(game):
-    """Return the dict from all lines to the lists of their standings."""
-    return {line: along(game, line) for line in lines(game)}
-
-
-def rises(game):
-    """Return the dict from all standings to the dicts from those one change away to the own gain of the change."""
-    found = {}
-    for standing in game:
-        found[standing] = {game.goal(standing, change): game.own(standing, change) for change in game.changes(standing)}
-    return found
-
-
-def row_through(game, places):
-    """Return the row that comes through a list of standings, each one change behind the one ahead."""
-    changes = []
-    for ahead, behind in zip(places, places[1:]):
-        at = [place for place, way in enumerate(ahead) if way != behind[place]][0]
-        changes.append((game.choosers()[at], behind[at]))
-    return (places[0], changes)

@@ -1,34 +1,40 @@
 """Heights by signs."""
 
-from heightgames.rows import is_ring, rises, row_through, walked
-from heightgames.shapes import are_numbers, joined, over, ranks, shortest_ring
+from heightgames.graphs import clusters, ranks_of_parts, shortest_ring
+from heightgames.places import at_places, by_places, by_standings, level, over, row_through, seats
+from heightgames.rows import is_ring, walked
+from heightgames.shapes import are_numbers
 
 
 def levels(game):
     """Return the list of the levels, each ascending, by their first standings."""
-    own = rises(game)
-    return joined({standing: [goal for goal in own[standing] if own[standing][goal] == 0] for standing in own})
+    return [at_places(game, cluster) for cluster in clusters(level(game))]
 
 
 def sign_height(game):
     """Return the least height by signs, or None."""
-    return ranks(over(rises(game), 0), levels(game))
+    found = ranks_of_parts(over(game, 0), clusters(level(game)))
+    return None if found is None else by_standings(game, found)
 
 
 def is_sign_height(game, thing):
     """Return whether any value is a height by signs of a game."""
-    if not are_numbers(thing, game):
+    if not are_numbers(thing, game.standings()):
         return False
-    own = rises(game)
-    # Each change may be done back, so what rises neither there nor back stays.
-    return all([(thing[goal] > thing[standing]) == (own[standing][goal] > 0)
-                for standing in own for goal in own[standing]])
+    numbers = by_places(game, thing)
+    for gains, lines in seats(game):
+        for line in lines:
+            for place in line:
+                for goal in line:
+                    # Each change may be done back, so what rises neither there nor back stays.
+                    if (numbers[goal] > numbers[place]) != (gains[goal] > gains[place]):
+                        return False
+    return True
 
 
 def weak_ring(game):
     """Return a weak ring of as few changes as possible, or None."""
-    own = rises(game)
-    ring = shortest_ring(over(own, -1), over(own, 0))
+    ring = shortest_ring(over(game, -1), over(game, 0))
     return None if ring is None else row_through(game, ring)
 
 

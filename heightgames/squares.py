@@ -2,6 +2,7 @@
 
 from heightgames.errors import NoSquare
 from heightgames.kinds import are_names, is_name
+from heightgames.places import seats
 from heightgames.shapes import put
 
 
@@ -63,20 +64,62 @@ def sums(game, square):
     return (of_one, of_other)
 
 
+def crossings(game):
+    """Return the ascending dict from the pairs of choosers to the lists of the crossings of their squares.
+
+    A crossing is a tuple (corner, across, x, y): the place of the standing of a square, that behind
+    the first two changes of its ring, and its sums.
+    """
+    along = seats(game)
+    names = game.choosers()
+    found = {}
+    for at, one in enumerate(names):
+        for other_at in range(at + 1, len(names)):
+            found[(one, names[other_at])] = crossings_of(along[at], along[other_at])
+    return found
+
+
+def crossings_of(seat, other_seat):
+    """Return the list of the crossings of two choosers."""
+    gains, lines = seat
+    other_gains, other_lines = other_seat
+    # Lines of the one that begin where lines of the other begin give grids: rows by the ways of the one.
+    rows = {line[0]: line for line in other_lines}
+    grids = [[rows[place] for place in line] for line in lines if line[0] in rows]
+    found = []
+    for grid in grids:
+        for at, row in enumerate(grid):
+            for later in grid[at + 1:]:
+                found.extend(crossings_between(row, later, gains, other_gains))
+    return found
+
+
+def crossings_between(row, later, gains, other_gains):
+    """Return the list of the crossings of two rows of a grid."""
+    of_one = [gains[goal] - gains[place] for place, goal in zip(row, later)]
+    of_other = [other_gains[goal] - other_gains[place] for place, goal in zip(row, later)]
+    return [(row[low], later[high], of_one[low] - of_one[high], of_other[high] - of_other[low])
+            for low in range(len(row)) for high in range(low + 1, len(row))]
+
+
+def square_across(game, pair, corner, across):
+    """Return the square of a pair that has two places at its corner and across."""
+    one, other = pair
+    goal = game.standing_list[across]
+    return (game.standing_list[corner], one, other, goal[game.seat(one)], goal[game.seat(other)])
+
+
 def bad_square(game):
     """Return the least square whose sums do not add up to 0, or None."""
-    for square in squares(game):
-        if is_bad(game, square):
-            return square
-    return None
+    table = crossings(game)
+    bad = [(corner, pair, across) for pair in table for corner, across, x, y in table[pair] if x + y != 0]
+    if not bad:
+        return None
+    corner, pair, across = min(bad)
+    return square_across(game, pair, corner, across)
 
 
 def bad_pairs(game):
     """Return the ascending list of the pairs of choosers that have a bad square."""
-    return sorted({(square[1], square[2]) for square in squares(game) if is_bad(game, square)})
-
-
-def is_bad(game, square):
-    """Return whether the sums of a square do not add up to 0."""
-    of_one, of_other = sums(game, square)
-    return of_one + of_other != 0
+    table = crossings(game)
+    return [pair for pair in table if any([x + y != 0 for corner, across, x, y in table[pair]])]

@@ -1,9 +1,10 @@
 """Heights by weights."""
 
 from heightgames.games import Game
+from heightgames.graphs import clusters
 from heightgames.heights import height, is_height
-from heightgames.shapes import are_numbers, divisor, joined
-from heightgames.squares import is_square, squares, sums
+from heightgames.shapes import are_numbers, divisor
+from heightgames.squares import crossings, is_square, square_across, sums
 
 
 def links(game):
@@ -12,34 +13,39 @@ def links(game):
 
 
 def linking(game):
-    """Return the ascending dict from the pairs that are linked to the dicts from their squares to sums not (0, 0)."""
+    """Return the ascending dict from the pairs that are linked to their crossings whose sums are not (0, 0)."""
+    table = crossings(game)
     found = {}
-    for square in squares(game):
-        total = sums(game, square)
-        if total != (0, 0):
-            found.setdefault((square[1], square[2]), {})[square] = total
-    return {pair: found[pair] for pair in sorted(found)}
+    for pair in table:
+        marks = [mark for mark in table[pair] if mark[2] != 0 or mark[3] != 0]
+        if marks:
+            found[pair] = marks
+    return found
 
 
 def groups(game):
     """Return the list of the groups of choosers that are linked to one another."""
-    return joined(partners(game, links(game)))
+    return groups_by(game, links(game))
 
 
-def partners(game, pairs):
-    """Return the dict from the choosers to the lists of all who are in a pair with them, themselves too."""
-    return {chooser: [name for pair in pairs if chooser in pair for name in pair] for chooser in game.choosers()}
+def groups_by(game, pairs):
+    """Return the list of the groups of choosers whom pairs join, each ascending, by their first choosers."""
+    nexts = [[] for chooser in game.choosers()]
+    for one, other in pairs:
+        nexts[game.seat(one)].append(game.seat(other))
+        nexts[game.seat(other)].append(game.seat(one))
+    return [[game.choosers()[at] for at in cluster] for cluster in clusters(nexts)]
 
 
 def weights(game):
     """Return the least weights with which a game has a height by weights, or None."""
-    if against_weights(game) is not None:
+    table = linking(game)
+    if against(game, table) is not None:
         return None
     # Nothing is against weights, so all squares of a pair ask for the same weights.
-    table = linking(game)
-    samples = {pair: list(table[pair].values())[0] for pair in table}
+    samples = {pair: table[pair][0][2:] for pair in table}
     found = {}
-    for group in groups(game):
+    for group in groups_by(game, list(table)):
         found.update(least_weights(group, {pair: samples[pair] for pair in samples if pair[0] in group}))
     return {chooser: found[chooser] for chooser in sorted(found)}
 
@@ -93,17 +99,21 @@ def is_weighted(game, numbers, thing):
 
 def against_weights(game):
     """Return an ascending list of as few squares as possible against all weights, or None."""
-    table = linking(game)
+    return against(game, linking(game))
+
+
+def against(game, table):
+    """Return a list of squares against all weights, or None, by what linking returned."""
     for pair in table:
-        for square in table[pair]:
-            if is_lopsided(table[pair][square]):
-                return [square]
+        for corner, across, x, y in table[pair]:
+            if is_lopsided((x, y)):
+                return [square_across(game, pair, corner, across)]
     for pair in table:
-        first = list(table[pair])[0]
-        for square in table[pair]:
-            if are_unlike(table[pair][first], table[pair][square]):
-                return [first, square]
-    return round_against(table)
+        first = table[pair][0]
+        for mark in table[pair]:
+            if are_unlike(first[2:], mark[2:]):
+                return sorted([square_across(game, pair, corner, across) for corner, across, x, y in (first, mark)])
+    return round_against(game, table)
 
 
 def is_lopsided(total):
@@ -116,16 +126,16 @@ def are_unlike(total, other):
     return total[0] * other[1] != other[0] * total[1]
 
 
-def round_against(table):
+def round_against(game, table):
     """Return the ascending list of the squares of a round against all weights, of three if there is one, or None.
 
     No one square and no two squares of a pair are against all weights.
     """
     # The squares of a pair ask for the same weights, so one of them is enough.
-    samples = {pair: list(table[pair])[0] for pair in table}
+    samples = {pair: table[pair][0] for pair in table}
     for pairs in rounds_of(table):
-        if is_round_against({pair: table[pair][samples[pair]] for pair in pairs}):
-            return sorted([samples[pair] for pair in pairs])
+        if is_round_against({pair: samples[pair][2:] for pair in pairs}):
+            return sorted([square_across(game, pair, samples[pair][0], samples[pair][1]) for pair in pairs])
     return None
 
 
