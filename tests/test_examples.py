@@ -61,8 +61,37 @@ True
 ['ends', {('l', 'l'): 2, ('l', 'r'): 0, ('r', 'l'): 1, ('r', 'r'): 1}, 'open', []]
 
 >>> from heightgames.far import calm, far, near_height
+>>> from heightgames.tolls import lone_tolls, paid, rest_tolls
+>>> from heightgames.worth import best_sum, dearness, rest_sums
+>>> lone = Game({"c": ["u", "v"]}, {("u",): (0,), ("v",): (1,)})
 >>> [far(meet), far(flee), calm(meet), calm(flee), near_height(meet) == height(meet)]
 [(0, 1), (1, 1), 0, 1, True]
+>>> [rest_tolls(flee, ("l", "l")), lone_tolls(lone, ("u",)), paid(flee, ("l", "l"))]
+[{'a': {'l': 0, 'r': 0}, 'b': {'l': 0, 'r': 1}}, {'c': {'u': 0, 'v': 2}}, 2]
+>>> [best_sum(meet), rest_sums(meet), rest_sums(flee), dearness(two)]
+[(4, ('l', 'l')), ((2, ('r', 'r')), (4, ('l', 'l'))), None, (1, 1)]
+
+>>> from heightgames.firsts import firsts, stray
+>>> from heightgames.joined import beside, sides
+>>> from heightgames.parts import lots, struck, worse
+>>> [lots(beside(meet, lone)), worse(lone), len(struck(lone)[0]), sides(meet, lone, ("l", "r", "u"))]
+[[['a', 'b'], ['c']], [('c', 'u', 'v')], 1, (('l', 'r'), ('u',))]
+>>> [firsts(meet, [("l", "l")]), firsts(lone, [("v",)]), stray(meet, {}, [("l", "l"), ("r", "r")])]
+[(('a', 'l'), ('b', 'l')), (), None]
+
+>>> from heightgames.back import Seen
+>>> from heightgames.desk import Desk
+>>> from heightgames.teams import strong_rests, team_betterings, team_ranks
+>>> [team_betterings(meet, ("r", "r")), strong_rests(meet), team_ranks(meet)[("l", "l")]]
+[[('l', 'l')], [('l', 'l')], 2]
+>>> seen = Seen(plain)
+>>> seen.saw(("l", "r"), ("a", "r"))
+>>> seen.rested(("l", "l"))
+>>> [len(seen), seen.height(), seen.against()]
+[2, {('l', 'l'): 0, ('l', 'r'): 0, ('r', 'l'): 0, ('r', 'r'): 1}, None]
+>>> desk = Desk()
+>>> [desk.execute("chooser c u v\\nat u 0\\nat v 1"), desk.execute("better"), desk.execute("go c.v"), desk.execute("rests")]
+['ok', 'c.v', '1', 'v']
 """
 
 import doctest

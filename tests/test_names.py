@@ -2,13 +2,18 @@
 
 import unittest
 
-from heightgames import betterings, climbs, ends, facts, far, fillings, heights, rounds, rows, signs, squares, weights
+from heightgames import (
+    betterings, climbs, ends, facts, far, fillings, firsts, heights, joined, notation, parts, readers, rounds, rows, signs, squares, teams,
+    tolls, weights, worth,
+)
+from heightgames.back import Seen
+from heightgames.desk import Desk, Walk
 from heightgames.games import Game
 from heightgames.roads import Roads
 from heightgames.ties import Ties
 from tests.samples import (
     CHOOSERS, SOME_SIZES, WAYS, Checks, any_game, bent_game, climbing_game, drawing, rings, side_by_side, signed_game,
-    steep_game, weighted_game,
+    steep_game, tied_game, weighted_game,
 )
 from tests.test_roads import NAMES, any_costs, any_uses
 from tests.test_ties import any_tables
@@ -116,6 +121,106 @@ class Names(Checks):
                 for change in game.changes(standing):
                     for call in (facts.is_sure, facts.is_possible):
                         self.assertIs(call(other, renamed(standing), renamed(change)), call(some, standing, change))
+
+    def test_tolls_and_worth(self):
+        draw = drawing(77)
+        for sizes in SOME_SIZES:
+            for game in (any_game(draw, sizes), climbing_game(draw, sizes)):
+                other = Game(*renamed(told(game)))
+                standing = draw.choice(game.standings())
+                for call in (tolls.rest_tolls, tolls.promises):
+                    self.exact(call(other, renamed(standing)), renamed(call(game, standing)))
+                self.exact(tolls.paid(other, renamed(standing)), tolls.paid(game, standing))
+                due = tolls.rest_tolls(game, standing)
+                self.exact(told(tolls.tolled(other, renamed(due))), renamed(told(tolls.tolled(game, due))))
+                self.exact(told(tolls.promised(other, renamed(standing))), renamed(told(tolls.promised(game, standing))))
+                for call in (worth.best_sum, worth.rest_sums):
+                    self.exact(call(other), renamed(call(game)))
+                if max(sizes) <= 2 and len(game) <= 8:
+                    found = [sum(sum(part.values()) for part in tolls.lone_tolls(*given).values())
+                             for given in ((game, standing), (other, renamed(standing)))]
+                    self.exact(found[0], found[1])
+
+    def test_parts_firsts_and_teams(self):
+        draw = drawing(78)
+        for sizes in SOME_SIZES:
+            for game in (any_game(draw, sizes, 3), climbing_game(draw, sizes), tied_game(draw, sizes, 9, 2)):
+                other = Game(*renamed(told(game)))
+                for call in (parts.hangs, parts.lots, parts.worse, teams.strong_rests, teams.team_ranks):
+                    self.exact(call(other), renamed(call(game)))
+                self.exact(told(parts.struck(other)[0]), renamed(told(parts.struck(game)[0])))
+                self.truth(parts.is_struck(other, renamed(parts.struck(game)[1])), True)
+                ways = dict(zip(game.choosers()[1:], game.standings()[-1][1:]))
+                self.exact(told(parts.fixed(other, renamed(ways))), renamed(told(parts.fixed(game, ways))))
+                for wished in (betterings.rests(game), betterings.rests(game)[:1]):
+                    found = firsts.firsts(game, wished)
+                    self.exact(firsts.firsts(other, renamed(wished)), renamed(found))
+                    for first in ({}, dict(found or ())):
+                        self.exact(firsts.lead_ranks(other, renamed(first), renamed(wished)), renamed(firsts.lead_ranks(game, first, wished)))
+                        away = firsts.stray(game, first, wished)
+                        self.assertIs(firsts.stray(other, renamed(first), renamed(wished)) is None, away is None)
+                        self.truth(firsts.is_stray(other, renamed(first), renamed(wished), renamed(away)), away is not None)
+                standing = draw.choice(game.standings())
+                self.exact(teams.team_betterings(other, renamed(standing)), renamed(teams.team_betterings(game, standing)))
+                ring = teams.team_ring(game)
+                self.truth(teams.is_team_ring(other, renamed(ring)), ring is not None)
+
+    def test_joined(self):
+        draw = drawing(79)
+        one, other = any_game(draw, (2, 3)), any_game(draw, (3, 2))
+        other = Game({"cid": other.ways("ann"), "dora": other.ways("bob")}, {place: other.gains(place) for place in other})
+        both = joined.beside(one, other)
+        new_one, new_other = Game(*renamed(told(one))), Game(*renamed(told(other)))
+        self.exact(told(joined.beside(new_one, new_other)), renamed(told(both)))
+        for standing in both:
+            self.exact(joined.sides(new_one, new_other, renamed(standing)), renamed(joined.sides(one, other, standing)))
+
+    def test_what_was_seen(self):
+        draw = drawing(80)
+        for sizes in SOME_SIZES[1:]:
+            game = any_game(draw, sizes)
+            seen, other = Seen(game.shape()), Seen(renamed(game.shape()))
+            for _ in range(9):
+                standing = draw.choice(game.standings())
+                if game.changes(standing) and draw.randrange(4):
+                    change = draw.choice(game.changes(standing))
+                    seen.saw(standing, change)
+                    other.saw(renamed(standing), renamed(change))
+                else:
+                    seen.rested(standing)
+                    other.rested(renamed(standing))
+                self.exact([item[1:] for item in other], [renamed(item[1:]) for item in seen])
+                self.exact(other.height(), renamed(seen.height()))
+                against = [] if seen.against() is None else seen.against()
+                words = [(renamed(item[0]), renamed(item[1]), item[2]) for item in against]
+                self.truth(other.is_against(words), against != [])
+
+    def test_texts_and_desks(self):
+        draw = drawing(81)
+        for sizes in SOME_SIZES:
+            game = any_game(draw, sizes)
+            other = Game(*renamed(told(game)))
+            self.assertEqual(readers.read_game(notation.show_game(other)), other)
+            walk, other_walk = Walk(game, game.standings()[-1]), Walk(other, other.standings()[-1])
+            one, two = Desk(), Desk()
+            one.execute(notation.show_game(game)[:-1])
+            two.execute(notation.show_game(other)[:-1])
+            for _ in range(6):
+                choice = game.changes(walk.here)
+                if choice:
+                    change = draw.choice(choice)
+                    self.exact(other_walk.go(renamed(change)), walk.go(change))
+                self.exact((other_walk.here, other_walk.row(), other_walk.gained()), renamed((walk.here, walk.row(), walk.gained())))
+                for line in ("gains", "kind", "far"):
+                    self.exact(two.execute(line), one.execute(line))
+                standing = draw.choice(game.standings())
+                for desk, place in ((one, standing), (two, renamed(standing))):
+                    self.exact(desk.execute("start " + notation.show_standing(place)), "ok")
+                for line, read in (("where", readers.read_standing), ("row", readers.read_row)):
+                    self.exact(read(two.execute(line)), renamed(read(one.execute(line))))
+                for line in ("better", "best"):
+                    found = [[] if desk.execute(line) == "-" else desk.execute(line).split(" ") for desk in (one, two)]
+                    self.exact([readers.read_change(word) for word in found[1]], [renamed(readers.read_change(word)) for word in found[0]])
 
     def test_roads(self):
         draw = drawing(72)
