@@ -80,7 +80,7 @@ class Seen:
 
     def is_against(self, thing):
         """Return whether any value is a list of tuples (standing, other, word), however long, that nothing fits."""
-        if not isinstance(thing, list) or len(thing) == 0:
+        if not isinstance(thing, list):
             return False
         graphs = {BETTER: self.rising(), REST: self.bounding()}
         if not all([self.is_arrow(graphs, item) for item in thing]):

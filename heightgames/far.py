@@ -81,7 +81,7 @@ def lift(numbers, sources, gains, line, top):
 
 def ring_of_sources(sources):
     """Return a ring, the first place again at its end, that leads from sources to those they are of, or None."""
-    # Each source was told later than what came before it, so a ring of them gains more than it loses.
+    # Numbers were raised all along such a ring, so its mean is greater than the amount that they were raised for.
     seen = [None] * len(sources)
     for start in range(len(sources)):
         place = start

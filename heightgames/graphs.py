@@ -16,11 +16,12 @@ def all_from(nexts, starts):
     seen = set(starts)
     at = 0
     while at < len(found):
-        for goal in nexts[found[at]]:
+        node = found[at]
+        at += 1
+        for goal in nexts[node]:
             if goal not in seen:
                 seen.add(goal)
                 found.append(goal)
-        at += 1
     return sorted(found)
 
 
@@ -30,11 +31,12 @@ def path(nexts, start, goal):
     queue = [start]
     at = 0
     while goal not in ahead and at < len(queue):
-        for node in nexts[queue[at]]:
-            if node not in ahead:
-                ahead[node] = queue[at]
-                queue.append(node)
+        node = queue[at]
         at += 1
+        for behind in nexts[node]:
+            if behind not in ahead:
+                ahead[behind] = node
+                queue.append(behind)
     if goal not in ahead:
         return None
     found = [goal]
@@ -103,11 +105,12 @@ def clusters(nexts):
             cluster = [start]
             at = 0
             while at < len(cluster):
-                for goal in nexts[cluster[at]]:
+                node = cluster[at]
+                at += 1
+                for goal in nexts[node]:
                     if not seen[goal]:
                         seen[goal] = True
                         cluster.append(goal)
-                at += 1
             found.append(sorted(cluster))
     return found
 

@@ -2,7 +2,6 @@
 
 from heightgames.errors import Wrong
 from heightgames.games import Game
-from heightgames.kinds import is_name
 from heightgames.places import seats
 from heightgames.shapes import sorted_ways, standings_of
 from heightgames.squares import crossings
@@ -43,7 +42,7 @@ def are_fixed(game, thing):
     if not isinstance(thing, dict) or len(thing) >= len(game.choosers()):
         return False
     for chooser, way in thing.items():
-        if not game.has_chooser(chooser) or not is_name(way) or way not in game.ways(chooser):
+        if not game.has_chooser(chooser) or way not in game.ways(chooser):
             return False
     return True
 
@@ -99,7 +98,7 @@ def is_step(game, thing):
         return False
     chooser, way, by = thing
     ways = game.ways(chooser)
-    if not is_name(way) or not is_name(by) or way not in ways or by not in ways:
+    if way not in ways or by not in ways:
         return False
     gains, lines = seats(game)[game.seat(chooser)]
     return is_less(gains, lines, ways.index(way), ways.index(by))

@@ -2,7 +2,7 @@
 
 from heightgames.errors import Wrong
 from heightgames.games import Game
-from heightgames.kinds import is_integer, is_name
+from heightgames.kinds import is_integer
 from heightgames.places import bits_of, place_of, seats
 from heightgames.rows import line_of, lines_by_places
 from heightgames.shapes import put
@@ -32,7 +32,7 @@ def are_tolls(game, thing):
         if not game.has_chooser(chooser) or not isinstance(part, dict):
             return False
         for way, toll in part.items():
-            if not is_name(way) or way not in game.ways(chooser) or not is_integer(toll) or toll < 0:
+            if way not in game.ways(chooser) or not is_integer(toll) or toll < 0:
                 return False
     return True
 

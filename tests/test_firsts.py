@@ -105,6 +105,17 @@ class Leads(Checks):
                     for wished in (rests(game), rests(game)[:1], []):
                         self.check(game, dict(reversed(first)), wished)
 
+    def test_rings_behind_several_beginnings(self):
+        draw = drawing(1504)
+        seen = []
+        for sizes in ((2, 2), (3, 3), (2, 2, 2), (4, 3)):
+            for _ in range(25):
+                game = any_game(draw, sizes)
+                seen.append(self.check(game, {}, game.standings()))
+                seen.append(self.check(game, any_first(draw, game), game.standings()))
+        self.assertGreater(seen.count("ring"), 50)
+        self.assertGreater(seen.count("leads"), 20)
+
     def test_no_first_ways_lead_to_all_rests_just_without_rings(self):
         for game in small_and_great_games(drawing(1503)):
             self.truth(leads(game, {}, rests(game)), bettering_ring(game) is None)
@@ -314,6 +325,16 @@ class Firsts(Checks):
                 for wished in wishes(draw, game):
                     seen.add(self.check(game, wished))
         self.assertEqual(seen, {None, 0, 1, 2, 3})
+
+    def test_betterings_that_are_not_best(self):
+        draw = drawing(1533)
+        seen = set()
+        for sizes in ((3, 3), (4, 3), (3, 2, 2)):
+            for _ in range(12):
+                game = climbing_game(draw, sizes)
+                for wished in ([place] for place in rests(game)):
+                    seen.add(self.check(game, wished))
+        self.assertLessEqual({1, 2}, seen)
 
     def test_great_games(self):
         draw = drawing(1532)

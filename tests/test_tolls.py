@@ -228,15 +228,27 @@ class LoneTolls(Checks):
                     own += any(tolls[chooser][way] > 0 for chooser, way in zip(game.choosers(), standing))
         self.assertGreater(own, 0)
 
+    def test_many_small_gains(self):
+        draw = drawing(1123)
+        for bound in (1, 2, 3):
+            for _ in range(30):
+                game = any_game(draw, (2, 2, 2), bound)
+                standing = draw.choice(game.standings())
+                self.assertEqual(self.check(game, standing), least_surcharges(game, standing, 2 * bound + 1))
+
     def test_a_toll_on_a_way_of_the_standing(self):
-        gains = [(-1, 3, 3), (3, 1, -2), (3, -1, -1), (3, 3, 2), (-3, 3, 1), (-1, 1, -2), (0, -1, 1), (3, 3, -1)]
         shape = {"a": ["l", "r"], "b": ["l", "r"], "c": ["l", "r"]}
-        game = Game(shape, dict(zip(itertools.product("lr", repeat=3), gains)))
+        places = list(itertools.product("lr", repeat=3))
+        gains = [(-1, 3, 3), (3, 1, -2), (3, -1, -1), (3, 3, 2), (-3, 3, 1), (-1, 1, -2), (0, -1, 1), (3, 3, -1)]
+        game = Game(shape, dict(zip(places, gains)))
         standing = ("l", "l", "l")
         self.exact(rests(game), [standing, ("l", "r", "r")])
         self.exact(self.check(game, standing), 1)
         fit = [tolls for tolls in all_tolls(game, 1) if rests(tolled(game, tolls)) == [standing]]
         self.assertEqual([tolls["a"]["l"] for tolls in fit], [1])
+        # One more than what makes two ways equal, less than all own gains there else.
+        gains = [(0, 1, -2), (1, -1, 1), (2, -2, 2), (1, -1, 2), (-1, 2, 2), (1, -2, 2), (1, 1, 2), (2, -2, 0)]
+        self.exact(self.check(Game(shape, dict(zip(places, gains))), ("l", "l", "r")), 1)
 
     def test_the_document(self):
         self.exact(lone_tolls(lone(), ("u",)), {"c": {"u": 0, "v": 2}})
