@@ -5,6 +5,8 @@ import itertools
 import random
 import unittest
 
+from heightgames.back import Seen
+from heightgames.desk import Desk, Walk
 from heightgames.errors import HeightError, NoStanding, Wrong
 from heightgames.facts import Facts
 from heightgames.games import Game
@@ -66,7 +68,8 @@ def odd_values():
         frozenset(["l", "r"]), {"l": "l"}, {"l": "r", "r": "l"}, {("l", "l"): 0}, ({}, {}), ([], []), ((), ()),
         ("a", "a"), ("a", "b"), ("b", "a"), ["a", "b"], ("a", "l", "r"), ("c", "l"), ["c", "l"], ("a",), ["a"],
         ("a", ("l", "l")), ("a", ("x",)), ("a", ()), ("a", ["l"]), ["a", ("l",)], ("a", "l"), (("l",), "a"),
-        (meet(), "l"), ("l", meet()), [meet()], meet(), lone(), two_roads(), one_tie(), some_facts(), Wrong(0), NoStanding([]),
+        (meet(), "l"), ("l", meet()), [meet()], meet(), lone(), two_roads(), one_tie(), some_facts(),
+        Seen(PLAIN), Walk(meet(), ("l", "l")), Desk(), (Desk(), "l"), {"a": Desk()}, {Desk(): 0}, Wrong(0), NoStanding([]),
         HeightError(), {"a": meet()}, {1: 2}, {None: []}, {("l", "l"): meet()}, {"a": []}, {"a": "lr"}, {"a": {}},
         {"a": ["l", "l"]}, {"a": [[]]}, {"a": [0]}, {"a": ["x"]}, {"c": ["l"]}, {1: ["l"]}, {("a",): ["l"]},
         {"a": None}, {"a": ["l", "r"], "b": [{}]},

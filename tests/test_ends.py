@@ -166,6 +166,25 @@ class Fates(Checks):
                 seen.add(self.check(telling(shape, told), shape, told))
         self.assertEqual(seen, {"ends", "turns", "open"})
 
+    def test_untold_lines_that_lead_back(self):
+        # Where all ways of the lines that are told gain the same, only untold lines make a ring.
+        draw = drawing(806)
+        for sizes, most in (((2, 2), 4), ((3, 3), 6), ((2, 2, 2), 8), ((2, 2, 2, 2), 17), ((3, 2, 2), 8), ((3, 3, 3), 12)):
+            shape = shape_of(sizes)
+            seen = []
+            for _ in range(60):
+                lines = lines_of(shape)
+                free = draw.sample(lines, draw.randint(1, most))
+                told = {line: (tuple(shape[line[0]]),) for line in lines if line not in free}
+                facts = telling(shape, told)
+                back = leads_back(shape, told)
+                self.truth(is_sure_climb(facts, {standing: 7 for standing in standings_of(shape)}), not back)
+                self.assertIs(possible_ring(facts) is None, not back)
+                if back:
+                    self.check(facts, shape, told)
+                seen.append(back)
+            self.assertEqual(set(seen), {True, False})
+
     def test_few_lines_untold(self):
         # Of games with a climb few lines are left out, which join standings to trees or lead back.
         draw = drawing(803)
