@@ -69,7 +69,7 @@ def one_arrow_on(nexts, near):
     for node, goals in enumerate(nexts):
         bits = near[node]
         for goal in goals:
-            bits |= near[goal]
+            bits = bits | near[goal]
         farther.append(bits)
     return farther
 

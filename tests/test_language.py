@@ -107,6 +107,28 @@ def changes(body):
     return [ast.unparse(node) for node in found]
 
 
+def handed(node):
+    """The pairs of what an extend, an update, a += or a |= changes, and of a value that it is handed."""
+    if isinstance(node, ast.AugAssign) and isinstance(node.op, (ast.Add, ast.BitOr)):
+        found = [(node.target, part) for part in walked(node.value)]
+    elif isinstance(node, ast.Call) and isinstance(node.func, ast.Attribute) and node.func.attr in ("extend", "update"):
+        found = [(node.func.value, part) for value in node.args for part in walked(value)]
+    else:
+        found = []
+    # A slice is a copy.
+    return [(target, part) for target, part in found if not (isinstance(part, ast.Subscript) and isinstance(part.slice, ast.Slice))]
+
+
+def holders(node, same):
+    """The texts of a value, of what it is an item of, and of all other names of these."""
+    found = set()
+    more = {ast.unparse(node)}
+    while more - found:
+        found |= more
+        more = {root(ast.parse(text, mode="eval").body) for text in found}.union(*[one for one in same if one & found])
+    return found
+
+
 class Language(unittest.TestCase):
     def setUp(self):
         self.files = {path: path.read_text() for path in sorted(PACKAGE.glob("*.py"))}
@@ -291,6 +313,24 @@ class Language(unittest.TestCase):
                         names = {text}.union(*[one for one in same if text in one])
                         for changed in changes(node.body):
                             self.assertNotIn(changed, names, f"{path} {node.lineno}")
+
+    def test_what_is_handed_is_not_what_it_changes(self):
+        for path, function in self.functions():
+            same = same_things(function)
+            for node in ast.walk(function):
+                for target, part in handed(node):
+                    self.assertEqual(holders(target, same) & holders(part, same), set(), f"{path} {node.lineno}")
+
+    def test_what_is_handed_is_seen_by_other_names(self):
+        barred = ["bits = near[node]; bits |= near[goal]", "xs.extend(xs)", "ys = xs; xs += ys", "ys = xs; ys.update(xs)",
+                  "xs.extend(enumerate(xs))", "rows = box.rows; one = rows[0]; one += box.rows[1]", "xs += ys if k else xs"]
+        allowed = ["bits = near[node]; bits = bits | near[goal]", "xs.extend(list(xs))", "xs += xs[1:]", "xs.extend(ys)",
+                   "at = xs[0]; at += 1", "bits = near[node]; bits &= near[goal]"]
+        for text in barred + allowed:
+            tree = ast.parse(text)
+            same = same_things(tree)
+            met = [1 for node in ast.walk(tree) for target, part in handed(node) if holders(target, same) & holders(part, same)]
+            self.assertEqual(len(met), 1 if text in barred else 0, text)
 
     def test_double_underscore_methods(self):
         for where, node in self.nodes(ast.FunctionDef):
